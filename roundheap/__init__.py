@@ -1,0 +1,1 @@
+"""Roundheap: the memory of programs that repeat."""
