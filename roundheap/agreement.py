@@ -17,14 +17,14 @@ def settled(side, many):
     row, at, endless = side
     while True:
         if row.base is not None:
-            row, at, endless = row.base, at % row.base.total, True
-        if endless and at + many > row.total:
+            row, at, endless = row.base, at % row.base.extent, True
+        if endless and at + many > row.extent:
             return (row, at, True)
         endless = False
         if not row.parts:
             return (row, at, False)
         index = part_index(row, at)
-        if row.begins[index] + row.parts[index].total < at + many:
+        if row.begins[index] + row.parts[index].extent < at + many:
             return (row, at, False)
         row, at = row.parts[index], at - row.begins[index]
 
@@ -35,13 +35,13 @@ def rooted(links, periods, side):
     while row in links:
         row, shift = links[row]
         at = at + shift
-    return (row, at % periods.get(row, row.total), True)
+    return (row, at % periods.get(row, row.extent), True)
 
 
 def needed(periods, left, right):
     """After how many entries two endless sides agree for ever; 0 if it is known that they do."""
-    one = periods.get(left[0], left[0].total)
-    other = periods.get(right[0], right[0].total)
+    one = periods.get(left[0], left[0].extent)
+    other = periods.get(right[0], right[0].extent)
     if left[0] == right[0]:
         return 0 if left[1] == right[1] else one
     return one + other - gcd(one, other)
@@ -49,8 +49,8 @@ def needed(periods, left, right):
 
 def is_lower(one, other):
     """Whether a row may have links to it from another one: links lead to no longer row, so they come to an end."""
-    if one.total != other.total:
-        return one.total < other.total
+    if one.extent != other.extent:
+        return one.extent < other.extent
     return len(one.parts) <= len(other.parts)
 
 
@@ -58,17 +58,17 @@ def lesson(periods, left, right):
     """What to learn of endless sides that agree for ever: (upper row, lower row, shift, period of the lower)."""
     if not is_lower(left[0], right[0]):
         left, right = right, left
-    one = periods.get(left[0], left[0].total)
+    one = periods.get(left[0], left[0].extent)
     if left[0] == right[0]:
         return (left[0], left[0], 0, gcd(one, left[1] - right[1]))
-    other = periods.get(right[0], right[0].total)
+    other = periods.get(right[0], right[0].extent)
     return (right[0], left[0], left[1] - right[1], gcd(one, other))
 
 
 def splits_left(left, right):
     """Whether to split the left one of two sides: one of several parts, else the longer endless one."""
     if left[2] and right[2]:
-        return left[0].total >= right[0].total
+        return left[0].extent >= right[0].extent
     return not left[2]
 
 
@@ -76,16 +76,16 @@ def first_piece(side, many):
     """A side split: (side of the first piece, its length, side of the rest)."""
     row, at, endless = side
     if endless:
-        return ((row, at, False), min(many, row.total - at), (row, 0, True))
+        return ((row, at, False), min(many, row.extent - at), (row, 0, True))
     index = part_index(row, at)
-    end = row.begins[index] + row.parts[index].total
+    end = row.begins[index] + row.parts[index].extent
     length = min(many, end - at)
     return ((row.parts[index], at - row.begins[index], False), length, (row, at + length, False))
 
 
 def moved_on(side, length):
     row, at, endless = side
-    return (row, (at + length) % row.total, True) if endless else (row, at + length, False)
+    return (row, (at + length) % row.extent, True) if endless else (row, at + length, False)
 
 
 def split_task(begin, left, right, length):

@@ -105,7 +105,9 @@ def goals_in(heads, fronts):
 
 
 def objects_of(plan):
-    return list(plan.heads) + [("object", index) for index in range(len(plan.heads), plan.many)]
+    places = list(plan.heads)
+    places.extend([("object", index) for index in range(len(plan.heads), plan.many)])
+    return places
 
 
 def pools_of(plan):

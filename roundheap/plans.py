@@ -79,25 +79,17 @@ def step_of(plan, place):
     return 0 if place[0] == "object" else shift_of(plan, place[1])
 
 
-def far_origin(plan, place, count):
-    """The origin of a place that is no inner one, of a round plan, so many stretches ago."""
-    if place[0] == "object":
-        return place
-    return ("pool", place[1], place[2] + count * step_of(plan, place))
-
-
 def origins_along(plan, chain, count):
     """The origins of all places of a chain of a round plan, so many stretches ago."""
     length = len(chain)
     if is_cycle(plan, chain):
         return [chain[(index + count) % length] for index in range(length)]
-    behind = origin_of(plan, chain[-1])
+    # No object comes from itself and from a chain: behind a chain are places of one pool, each a shift further on.
+    _, size, begin = origin_of(plan, chain[-1])
     origins = []
     for index in range(length):
-        if index + count < length:
-            origins.append(chain[index + count])
-        else:
-            origins.append(far_origin(plan, behind, index + count - length))
+        far = index + count - length
+        origins.append(("pool", size, begin + far * shift_of(plan, size)) if far >= 0 else chain[index + count])
     return origins
 
 

@@ -70,8 +70,7 @@ def is_head(value, seen, weak):
         return False
     if not isinstance(parameters, list) or not isinstance(inner, list):
         return False
-    # The lengths come first, so that lists of any length are not put together.
-    if len(parameters) + len(inner) > 8 or first_bad_name(parameters + inner, 8, weak) is not None:
+    if first_bad_name(parameters + inner, 8, weak) is not None:
         return False
     return result is None or is_one_of(result, parameters + inner)
 

@@ -8,13 +8,13 @@ class Row:
     the other, with the index at which each one begins. No part has parts, and no base has a base.
     """
 
-    def __init__(self, leaf, base, times, parts, begins, total):
+    def __init__(self, leaf, base, times, parts, begins, extent):
         self.leaf = leaf
         self.base = base
         self.times = times
         self.parts = parts
         self.begins = begins
-        self.total = total
+        self.extent = extent
 
 
 def leaf_row(entries):
@@ -24,13 +24,13 @@ def leaf_row(entries):
 
 def repeated(row, times):
     """A row so many times, one behind the other."""
-    if times == 0 or row.total == 0:
+    if times == 0 or row.extent == 0:
         return leaf_row(())
     if times == 1:
         return row
     if row.base is not None:
         return repeated(row.base, row.times * times)
-    return Row(None, row, times, (), (), row.total * times)
+    return Row(None, row, times, (), (), row.extent * times)
 
 
 def parts_of(row):
@@ -43,12 +43,12 @@ def begins_of(row):
 
 def joined(one, other):
     """The row of both, one behind the other."""
-    if one.total == 0:
+    if one.extent == 0:
         return other
-    if other.total == 0:
+    if other.extent == 0:
         return one
-    begins = begins_of(one) + tuple([one.total + begin for begin in begins_of(other)])
-    return Row(None, None, 1, parts_of(one) + parts_of(other), begins, one.total + other.total)
+    begins = begins_of(one) + tuple([one.extent + begin for begin in begins_of(other)])
+    return Row(None, None, 1, parts_of(one) + parts_of(other), begins, one.extent + other.extent)
 
 
 def part_index(row, at):
@@ -67,7 +67,7 @@ def part_index(row, at):
 def entry_at(row, at):
     while row.leaf is None:
         if row.base is not None:
-            row, at = row.base, at % row.base.total
+            row, at = row.base, at % row.base.extent
         else:
             index = part_index(row, at)
             row, at = row.parts[index], at - row.begins[index]
@@ -89,7 +89,7 @@ def cut_row(row, first, last):
     """The row of the entries from first to last - 1."""
     if first == last:
         return leaf_row(())
-    if first == 0 and last == row.total:
+    if first == 0 and last == row.extent:
         return row
     if row.leaf is not None:
         return leaf_row(row.leaf[first:last])
@@ -101,7 +101,7 @@ def cut_row(row, first, last):
     if low == high:
         return cut_row(row.parts[low], first - begin, last - begin)
     middle = between_parts(row, low + 1, high)
-    head = joined(cut_row(row.parts[low], first - begin, row.parts[low].total), middle)
+    head = joined(cut_row(row.parts[low], first - begin, row.parts[low].extent), middle)
     return joined(head, cut_row(row.parts[high], 0, last - row.begins[high]))
 
 
@@ -116,13 +116,13 @@ def between_parts(row, low, high):
 
 def cut_rounds(base, first, last):
     """The entries from first to last - 1 of a row that is repeated without end."""
-    begin = first - first % base.total
-    if last <= begin + base.total:
+    begin = first - first % base.extent
+    if last <= begin + base.extent:
         return cut_row(base, first - begin, last - begin)
-    head = cut_row(base, first - begin, base.total)
-    rest = last - begin - base.total
-    middle = repeated(base, rest // base.total)
-    return joined(joined(head, middle), cut_row(base, 0, rest % base.total))
+    head = cut_row(base, first - begin, base.extent)
+    rest = last - begin - base.extent
+    middle = repeated(base, rest // base.extent)
+    return joined(joined(head, middle), cut_row(base, 0, rest % base.extent))
 
 
 def listed(row, first, last):
@@ -136,17 +136,17 @@ def listed(row, first, last):
     while index < len(row.parts) and row.begins[index] < last:
         begin = row.begins[index]
         part = row.parts[index]
-        entries.extend(listed(part, max(first - begin, 0), min(last - begin, part.total)))
+        entries.extend(listed(part, max(first - begin, 0), min(last - begin, part.extent)))
         index += 1
     return entries
 
 
 def listed_rounds(base, first, last):
     """The list of the entries from first to last - 1 of a row that is repeated without end."""
-    begin = first - first % base.total
-    if last <= begin + base.total:
+    begin = first - first % base.extent
+    if last <= begin + base.extent:
         return listed(base, first - begin, last - begin)
-    head = listed(base, first - begin, base.total)
-    times, rest = divmod(last - begin - base.total, base.total)
-    middle = listed(base, 0, base.total) * times if times > 0 else []
+    head = listed(base, first - begin, base.extent)
+    times, rest = divmod(last - begin - base.extent, base.extent)
+    middle = listed(base, 0, base.extent) * times if times > 0 else []
     return head + middle + listed(base, 0, rest)

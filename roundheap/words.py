@@ -13,8 +13,8 @@ MOST_LISTED = 1000
 class Making:
     """What the package itself makes a word of: its row, its depth and its pieces."""
 
-    def __init__(self, row, depth, pieces):
-        self.row = row
+    def __init__(self, content, depth, pieces):
+        self.content = content
         self.depth = depth
         self.pieces = pieces
 
@@ -66,21 +66,21 @@ class Word:
 
     def __init__(self, entries):
         making = entries if isinstance(entries, Making) else making_of(entries)
-        self._row = making.row
+        self._row = making.content
         self._depth = making.depth
         self._pieces = making.pieces
 
     def length(self):
-        return self._row.total
+        return self._row.extent
 
     def cut(self, first, last):
-        check_index(first, 0, self._row.total)
-        check_index(last, first, self._row.total)
+        check_index(first, 0, self._row.extent)
+        check_index(last, first, self._row.extent)
         return Word(Making(cut_row(self._row, first, last), self._depth, self._pieces))
 
     def entries(self, first, last):
-        check_index(first, 0, self._row.total)
-        check_index(last, first, min(self._row.total, first + MOST_LISTED))
+        check_index(first, 0, self._row.extent)
+        check_index(last, first, min(self._row.extent, first + MOST_LISTED))
         return listed(self._row, first, last)
 
     def __add__(self, other):
@@ -99,7 +99,7 @@ class Word:
         return Word(Making(repeated(self._row, other), self._depth + 1, self._pieces))
 
     def __getitem__(self, at):
-        if not is_within(at, 0, self._row.total - 1):
+        if not is_within(at, 0, self._row.extent - 1):
             raise InvalidNumber(at)
         return entry_at(self._row, at)
 
@@ -107,7 +107,7 @@ class Word:
         raise TypeError("a word is not iterable")
 
     def __bool__(self):
-        return bool(self._row.total > 0)
+        return bool(self._row.extent > 0)
 
     def __contains__(self, x):
         return is_entry(x) and has_entry(self._row, x)
@@ -117,7 +117,7 @@ class Word:
 
 
 def are_same(one, other):
-    return one.total == other.total and agreed(one, 0, other, 0, one.total) == one.total
+    return one.extent == other.extent and agreed(one, 0, other, 0, one.extent) == one.extent
 
 
 def agreeing(one, first, other, second):

@@ -78,6 +78,28 @@ def some_word(rng, kinds, size, depth):
     return one[0].cut(first, last), one[1][first:last]
 
 
+def some_words(rng, kinds, many):
+    """Pairs (word, list of its entries) that are made of one another, so that they share what they are made of."""
+    made = []
+    for _ in range(2):
+        row = [rng.choice(ENTRIES[:kinds]) for _ in range(rng.randint(1, 3))] * rng.choice([1, 1, 2, 3])
+        made.append((Word(row), row, 0))
+    while len(made) < many:
+        word, row, depth = rng.choice(made)
+        chance = rng.random()
+        if chance < 0.4:
+            other, second, more = rng.choice(made)
+            made.append((word + other, row + second, max(depth, more)))
+        elif chance < 0.7 and depth < 5 and len(row) < 200:
+            times = rng.choice([2, 3, 4, 7])
+            made.append((word * times, row * times, depth + 1))
+        else:
+            first = rng.randint(0, min(len(row), 9))
+            last = rng.randint(first, len(row))
+            made.append((word.cut(first, last), row[first:last], depth))
+    return [(word, row) for word, row, _ in made]
+
+
 def rounds_at(row, length):
     """How many entries from the beginning on have a period."""
     many = length

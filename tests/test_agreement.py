@@ -6,7 +6,7 @@ import unittest
 
 from roundheap.errors import InvalidNumber, LimitExceeded
 from roundheap.words import Word, agreeing, first_difference, has_period
-from chance import ENTRIES, agreement, row_of_rounds, some_word, word_for
+from chance import ENTRIES, agreement, row_of_rounds, some_word, some_words, word_for
 from kinds import HUGE, all_but, is_plain_integer
 
 A, B, C, D = ENTRIES
@@ -66,6 +66,23 @@ class Chance(Base):
             other, second = some_word(rng, kinds, rng.randint(1, 14), 6)
             self.check(rng, one, row, other, second)
             self.assertTrue(one == Word(row))
+
+    def test_words_that_share_what_they_are_made_of(self):
+        rng = random.Random(16)
+        for _ in range(250):
+            words = some_words(rng, rng.choice([1, 2, 2, 3]), 14)
+            for _ in range(12):
+                one, row = rng.choice(words)
+                other, second = rng.choice(words)
+                self.check(rng, one, row, other, second)
+
+    def test_what_is_learned_of_a_word_and_itself(self):
+        word = Word([A, A, B, A, A, B])
+        one = word * 10 + Word([C]) + word * 10
+        other = word * 10 + Word([A, A, B]) + Word([C]) + Word([A]) + word * 10
+        # They agree, one shifted by a period that is shorter than the list; then they do not.
+        self.assertEqual(agreeing(one, 1, other, 4), 62)
+        self.assertEqual(agreeing(one, 1, other, 7), 56)
 
     def test_the_same_entries_made_otherwise(self):
         rng = random.Random(12)

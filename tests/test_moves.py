@@ -12,11 +12,6 @@ from kinds import HUGE, all_but, is_plain_integer, odd_values
 LEAK = (pool(1, 0), {1: ([], 1)})
 
 
-def is_good_place(value):
-    """Whether one of the values of all kinds is a place: there is none among them."""
-    return False
-
-
 class Base(unittest.TestCase):
     def refused(self, part, heads, pools):
         with self.assertRaises(InvalidArgument) as caught:
@@ -46,7 +41,8 @@ class Making(Base):
             self.refused("objects", [("object", 0), value], {})
         for place in (("object", -1), ("object", True), ("pool", 0, 0), ("pool", 9, 0), ("pool", 1, -1),
                       ("pool", 1), ("object", 0, 0), ["object", 0], ("Object", 0), ("pool", 1, 0.0), ("object", None),
-                      (b"object", 0), ("objects", 0), ("pool", False, 0), ("pool", 1, True)):
+                      (b"object", 0), ("objects", 0), ("pool", False, 0), ("pool", 1, True), ("object", 1, 0), ("pools", 1, 0),
+                      (None, 1, 0), (None, 0), (["object"], 0), ("pool", 1, 0, 0)):
             self.refused("objects", [place], {})
         self.refused("objects", tuple(objects(0)), {})
 
