@@ -83,7 +83,7 @@ def first_piece(side, many):
     return ((row.parts[index], at - row.begins[index], False), length, (row, at + length, False))
 
 
-def moved_on(side, length):
+def advanced(side, length):
     row, at, endless = side
     return (row, (at + length) % row.extent, True) if endless else (row, at + length, False)
 
@@ -93,11 +93,11 @@ def split_task(begin, left, right, length):
     if splits_left(left, right):
         piece, size, rest = first_piece(left, length)
         now = (begin, piece, right, size)
-        later = (begin + size, rest, moved_on(right, size), length - size)
+        later = (begin + size, rest, advanced(right, size), length - size)
     else:
         piece, size, rest = first_piece(right, length)
         now = (begin, left, piece, size)
-        later = (begin + size, moved_on(left, size), rest, length - size)
+        later = (begin + size, advanced(left, size), rest, length - size)
     return [later, now] if size < length else [now]
 
 
@@ -112,7 +112,7 @@ def listed_side(side, skip, many):
     return listed(row, at + skip, at + skip + many)
 
 
-def alike(left, right, many):
+def same_entries(left, right, many):
     """How many of the next entries are the same, one by one: chunks, so that an early difference is found soon."""
     done = 0
     chunk = 32
@@ -160,7 +160,7 @@ def agreed(one, first, other, second, many):
                 tasks.append((begin, left, right, 0))
                 length = least
         elif is_leaf(left) or is_leaf(right):
-            same = alike(left, right, length)
+            same = same_entries(left, right, length)
             if same < length:
                 return begin + same
             continue

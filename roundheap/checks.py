@@ -31,3 +31,17 @@ def is_name(value):
 def is_one_of(value, names):
     """Whether a value is one of some strings, given as a list, a tuple or a dict."""
     return isinstance(value, str) and value in names
+
+
+def is_key(value):
+    """Whether a value consists of nothing but integers, strings, and tuples of these in few layers."""
+    layers = [value]
+    for _ in range(4):
+        further = []
+        for part in layers:
+            if isinstance(part, tuple):
+                further.extend(part)
+            elif not is_integer(part) and not isinstance(part, str):
+                return False
+        layers = further
+    return not layers

@@ -39,12 +39,16 @@ class Scope:
 
 
 class Survey:
-    """What is seen in a body: the place of its first invalid statement or None, how many, and how deep repeats are."""
+    """What is seen in a body: the place of its first invalid statement or None, how many, and how deep repeats are.
 
-    def __init__(self, place, many, depth):
+    `buried` tells whether a block was nested too deep to be looked into.
+    """
+
+    def __init__(self, place, many, depth, buried):
         self.place = place
         self.many = many
         self.depth = depth
+        self.buried = buried
 
 
 def fits(kind, value, scope):
@@ -125,28 +129,30 @@ def survey(body, scope):
     """Look through a body in the order of its text, up to the first invalid statement."""
     many = 0
     depth = 0
+    buried = False
     # Blocks on the way: block, the place ahead, in how many blocks and repeats it stands, the next index.
     ways = [(body, (), 0, 0, 0)]
     while ways:
         block, ahead, nested, repeats, index = ways.pop()
         if nested > DEEPEST_BLOCK:
             many += MOST_STATEMENTS + 1
+            buried = True
             continue
         if not isinstance(block, list):
-            return Survey(ahead, many, depth)
+            return Survey(ahead, many, depth, buried)
         if index == len(block):
             continue
         statement = block[index]
         place = ahead + (index,)
         if not fits_form(statement, scope, repeats):
-            return Survey(place, many, depth)
+            return Survey(place, many, depth, buried)
         many += 1
         depth = max(depth, depth_of(statement, scope, repeats))
         ways.append((block, ahead, nested, repeats, index + 1))
         inner = repeats + 1 if statement[0] == "repeat" else repeats
         for part, start in blocks_of(statement, place):
             ways.append((part, start, nested + 1, inner, 0))
-    return Survey(None, many, depth)
+    return Survey(None, many, depth, buried)
 
 
 def copied_block(block):

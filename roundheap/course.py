@@ -1,0 +1,150 @@
+"""The course of a run: its blocks done one by one, and what each repeat did."""
+
+from roundheap.doing import Doer, assign, gain, mark_now, memory_of, set_variable, touch, value_of
+from roundheap.errors import LimitExceeded
+from roundheap.growth import growth_behind, note_gaps
+from roundheap.memory import add_frame, count_step, end_frame, extent_of, record
+from roundheap.periods import skip_rounds
+from roundheap.states import state_of
+from roundheap.sweeping import do_simple
+from roundheap.traces import Branch, Passage, Turns, note_round
+
+MOST_WORK = 20000
+MOST_OBJECTS = 200
+
+
+class Course:
+    """A block that is done from a memory on, as far as it comes.
+
+    `tops` are numbers of objects and units behind each statement that was done one by one; `failed` is the spot at
+    which the course failed, or None.
+    """
+
+    def __init__(self, world, memory, text, grows):
+        self.world = world
+        self.doer = Doer(world, memory)
+        self.grows = grows
+        self.labor = 0
+        self.tops = []
+        self.failed = None
+        self.root = Passage(text)
+        do_block(self, self.root, ())
+
+
+def do_block(course, passage, path):
+    """Do the statements of a block; whether none of them failed."""
+    for index, statement in enumerate(passage.text):
+        passage.marks.append(mark_now(course.doer))
+        if not do_statement(course, passage, index, statement, path + (index,)):
+            return False
+    passage.marks.append(mark_now(course.doer))
+    return True
+
+
+def do_statement(course, passage, index, statement, spot):
+    word = statement[0]
+    if word == "repeat":
+        turns = Turns(statement[1], statement[2])
+        passage.inner[index] = turns
+        return do_repeat(course, turns, spot)
+    if word == "call":
+        branch = Branch(0, course.world.tasks[statement[2]].text)
+        passage.inner[index] = branch
+        return do_call(course, statement, branch.passage, spot)
+    if word == "ifnil" or word == "ifsame":
+        way = way_of(course.doer, statement, spot)
+        branch = Branch(way, statement[way - 2])
+        passage.inner[index] = branch
+        return do_block(course, branch.passage, spot + (way,))
+    return do_step(course, statement, spot)
+
+
+def do_step(course, statement, spot):
+    """Do a simple statement, within the limits of a run."""
+    if course.labor == MOST_WORK:
+        raise LimitExceeded(MOST_WORK)
+    course.labor += 1
+    doer = course.doer
+    doer.spot = spot
+    if not do_simple(doer, statement):
+        course.failed = spot
+        return False
+    memory = memory_of(doer)
+    if len(memory.things) > MOST_OBJECTS:
+        raise LimitExceeded(MOST_OBJECTS)
+    record(doer.tape, count_step, None, None)
+    course.tops.append(extent_of(memory))
+    return True
+
+
+def way_of(doer, statement, spot):
+    """Which block of an if is done."""
+    number = value_of(doer, statement[1])
+    if statement[0] == "ifnil":
+        return 0 if number is None else 1
+    other = value_of(doer, statement[2])
+    doer.spot = spot
+    touch(doer, number)
+    touch(doer, other)
+    return 0 if number == other else 1
+
+
+def do_call(course, statement, passage, spot):
+    _, target, name, arguments = statement
+    doer = course.doer
+    task = course.world.tasks[name]
+    doer.spot = spot
+    held = {variable: None for variable in task.names}
+    for variable, argument in zip(task.names, arguments):
+        held[variable] = value_of(doer, argument)
+        gain(doer, held[variable])
+    record(doer.tape, add_frame, name, held)
+    if not do_block(course, passage, spot):
+        return False
+    doer.spot = spot + (len(passage.text),)
+    if target is not None:
+        set_variable(doer, len(memory_of(doer).frames) - 2, target, value_of(doer, task.result))
+    for variable in task.names:
+        assign(doer, variable, None)
+    record(doer.tape, end_frame, None, None)
+    return True
+
+
+def do_repeat(course, turns, spot):
+    """Do rounds until all are over, a state returns, or the repeat is found to grow; then go on behind the last one."""
+    doer = course.doer
+    known = {}
+    states = {}
+    note_round(doer, turns)
+    states[state_of(memory_of(doer), course.world.phases, known)] = 0
+    while len(turns.rounds) < turns.times:
+        number = len(turns.rounds)
+        passage = Passage(turns.text)
+        turns.rounds.append(passage)
+        if not do_block(course, passage, spot + (number,)):
+            return False
+        note_round(doer, turns)
+        state = state_of(memory_of(doer), course.world.phases, known)
+        if state in states:
+            turns.kind = "returns"
+            turns.first = states[state]
+            turns.period = number + 1 - turns.first
+            break
+        states[state] = number + 1
+        if course.grows and len(spot) == 1 and has_grown(course, turns):
+            break
+    if len(turns.rounds) < turns.times:
+        skip_rounds(course, turns)
+    return True
+
+
+def has_grown(course, turns):
+    """Whether the repeat is found to grow behind the rounds that are done."""
+    note_gaps(course.doer, turns)
+    period = growth_behind(course.doer, turns)
+    if period is None:
+        return False
+    turns.kind = "grows"
+    turns.period = period
+    turns.first = len(turns.rounds) - 2 * period
+    return True

@@ -1,0 +1,80 @@
+"""What is remembered of the blocks that a course went through."""
+
+from roundheap.doing import mark_now, memory_of
+from roundheap.memory import memory_at
+
+
+class Passage:
+    """A block that was gone through: the marks ahead of its statements and at its end, as far as it came.
+
+    `inner` leads from the indexes of calls, ifs and repeats to what was done within them.
+    """
+
+    def __init__(self, text):
+        self.text = text
+        self.marks = []
+        self.inner = {}
+
+
+class Branch:
+    """A call, or the block with the index `way` of an if."""
+
+    def __init__(self, way, text):
+        self.way = way
+        self.passage = Passage(text)
+
+
+class Turns:
+    """A repeat: the rounds that were begun one by one, and whether it is "over", "returns" or "grows".
+
+    For each number of rounds that were done to their end, from 0 on: `marks` are those behind them, `touched` how
+    many touches there were, `sizes` how many objects, `births` how many were made, `doings` how many statements done,
+    `helds` what the variables of the innermost call refer to: (number, address), or None. `lasts`, `gaps` and `lows`
+    tell in which rounds objects were touched, for repeats that may grow.
+    """
+
+    def __init__(self, times, text):
+        self.times = times
+        self.text = text
+        self.rounds = []
+        self.kind = "over"
+        self.first = 0
+        self.period = 0
+        self.told = None
+        self.leaving = None
+        self.marks = []
+        self.touched = []
+        self.sizes = []
+        self.births = []
+        self.doings = []
+        self.helds = []
+        self.lasts = {}
+        self.gaps = []
+        self.lows = []
+
+
+def holding(memory, number):
+    """The number and the address of an object; None for nil, and for a retired one."""
+    return (number, memory.things[number].home) if number in memory.things else None
+
+
+def note_round(doer, turns):
+    """Remember what there is behind the rounds that are done."""
+    memory = memory_of(doer)
+    turns.marks.append(mark_now(doer))
+    turns.touched.append(len(doer.touches))
+    turns.sizes.append(len(memory.things))
+    turns.births.append(memory.births)
+    turns.doings.append(memory.done)
+    held = memory.frames[-1].held
+    turns.helds.append({name: holding(memory, held[name]) for name in held})
+
+
+def rounds_done(turns):
+    """How many rounds were done to their end."""
+    return len(turns.marks) - 1
+
+
+def memory_behind(doer, turns, number):
+    """The memory behind so many rounds that were done one by one."""
+    return memory_at(doer.tape, turns.marks[number])
