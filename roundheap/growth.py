@@ -1,5 +1,6 @@
 """Growth: by which conditions a repeat is found to do the same again and again, and to leave objects behind."""
 
+from roundheap.doing import memory_of
 from roundheap.memory import RETIRED
 from roundheap.traces import memory_behind, rounds_done
 
@@ -146,26 +147,27 @@ def fault_of(doer, turns, first, period):
 def note_gaps(doer, turns):
     """Remember for the last round how long ago each object was touched that is touched in it.
 
-    `gaps` are those numbers of rounds, in the order of the touches; `lows` the earliest round in which an object that
-    the repeat made was touched the last time before.
+    `gaps` are those numbers of rounds, ascending, for the objects that were there when the round began; `lows` the
+    earliest round in which one of them that the repeat made was touched the last time before.
     """
     number = rounds_done(turns) - 1
     begun = turns.births[0]
     gaps = []
     low = number
-    seen = {}
-    for other in doer.touches[turns.touched[number]:turns.touched[number + 1]]:
-        if other in seen:
-            continue
-        seen[other] = True
-        if other in turns.lasts:
-            gaps.append(number - turns.lasts[other])
-            low = min(low, turns.lasts[other]) if other >= begun else low
-        else:
-            gaps.append(0 if other >= begun else number + 1)
-    for other in seen:
+    for other in sorted(set(doer.touches[turns.touched[number]:turns.touched[number + 1]])):
+        if other >= turns.births[number]:
+            break
+        # What the repeat has not made may not have been touched yet.
+        before = turns.lasts.get(other, -1)
+        gaps.append(number - before)
+        if other >= begun:
+            low = min(low, before)
         turns.lasts[other] = number
-    turns.gaps.append(gaps)
+    for other in reversed(list(memory_of(doer).things)):
+        if other < turns.births[number]:
+            break
+        turns.lasts[other] = number
+    turns.gaps.append(sorted(gaps))
     turns.lows.append(low)
 
 

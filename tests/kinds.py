@@ -3,8 +3,12 @@
 import types
 
 from roundheap import errors
+from roundheap.addresses import Addresses
+from roundheap.growing import Growing
+from roundheap.leaks import Strip
 from roundheap.moves import Move
 from roundheap.programs import Program
+from roundheap.runs import Run
 from roundheap.words import Word
 
 HUGE = 10 ** 5000
@@ -15,6 +19,12 @@ CLASSES = [("node", 1, ["next"], True), ("pair", 2, ["left", "right"], False)]
 def make(**parts):
     """A program of these parts; the other ones are the usual ones."""
     return Program(**{"classes": CLASSES, "body": [], **PARTS, **parts})
+
+
+def grown():
+    """A run of a list that grows at its head in a repeat at (0,)."""
+    body = [("repeat", 10 ** 30, [("new", "y", "node"), ("store", "y", "next", "x"), ("copy", "x", "y"), ("clear", "y")])]
+    return Run(make(body=body))
 
 
 def deep_list(depth):
@@ -49,7 +59,13 @@ def odd_values():
         iter([1]), (k for k in [1]), zip([1]), map(len, []), enumerate([1]), reversed([1]), {}.items(), {}.keys(),
         int, str, list, object, type, Word, Move, Program, len, print, lambda: 1, "x".join, object(),
         types, ValueError("x"), ValueError, errors.InvalidNumber(3), errors.RunError, property(), staticmethod(len),
-        own, deep_list(3000), deep_tuple(3000), Word([]), Word([("emit", "a")]), Move([], {}), make(),
+        own, deep_list(3000), deep_tuple(3000), Word([]), Word([("emit", "a")]), Move([], {}),
+        grown(), grown().view((0,)), Growing(grown(), (0,)), Strip(grown(), (0,), 3), Addresses(grown(), (0,)),
+        Run, Growing, ("variable", 0), ("variable", 0, 0), ("variable", True, 0), ("variable", 0, False),
+        ("field", 0, "next"), ("field", False, "next"), ("old", 0), ("left", 0, 0), ("left", False, 0), ("core", 0),
+        ("core", True), [[]], [()], [("variable", 0, 0)], ("live", []), ("dead", ()), ("live", None), ("dead", [0]),
+        (0,), (False,), (0, 0), (0, 0, 0), (-1,), (0.0,), (HUGE,), [0], [True], [0, 0], [None], {(): 1}, {("field",): 1},
+        ([], -1), [([], 1)], [(None, 0)], make(),
     ]
 
 

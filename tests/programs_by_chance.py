@@ -118,6 +118,14 @@ def links(rng, name, sort, fields):
     return rng.choice(ways)
 
 
+def queue(rng, sort, field, is_ring):
+    """Statements that make a queue of a few objects from h to y, or a ring."""
+    block = [("new", "y", sort), ("copy", "h", "y")]
+    for _ in range(rng.randint(1, 3)):
+        block += [("new", "n", sort), ("store", "y", field, "n"), ("copy", "y", "n")]
+    return block + ([("store", "y", field, "h"), ("clear", "n")] if is_ring else [])
+
+
 def growing_program(rng, rounds):
     """A program with a repeat in which lists of objects grow."""
     classes = [("a", rng.choice([1, 2]), rng.sample(FIELDS, rng.randint(1, 2)), rng.random() < 0.3),
@@ -127,7 +135,7 @@ def growing_program(rng, rounds):
     weak = ["w"] if rng.random() < 0.4 else []
     threshold, radices = rng.choice([(1, []), (2, []), (3, []), (2, [2]), (1, [2]), (1, [3]), (1, [2, 2])])
     maker = Maker(rng, classes, weak, len(radices))
-    names = ["x", "y", "n", "m"]
+    names = ["x", "y", "n", "m", "h"]
     body = [("new", "x", rng.choice(sorts)), ("new", "y", "a")]
     if rng.random() < 0.4:
         body += maker.block(names, 0, 2)
@@ -143,6 +151,16 @@ def growing_program(rng, rounds):
         if rng.random() < 0.3:
             swap = [("copy", "m", "x"), ("copy", "x", "y"), ("copy", "y", "m"), ("clear", "m")]
             block += swap if rng.random() < 0.5 else swap[1:]
+        if rng.random() < 0.4:
+            # A queue or a ring that moves on in a repeat within the repeat.
+            field = rng.choice(fields)
+            turn = [("new", "m", sorts[0]), ("store", "y", field, "m"), ("copy", "y", "m"), ("load", "h", "h", field)]
+            if rng.random() < 0.4:
+                turn = [("load", "h", "h", field)]
+            if rng.random() < 0.3:
+                turn.append(rng.choice([("emit", "h"), ("clear", "m"), ("tag", "h", "u")]))
+            block.insert(rng.randint(0, 1) * len(block), ("repeat", rng.choice([2, 3, 5, 7, 9]), turn))
+            body += queue(rng, sorts[0], field, turn[0][0] == "load")
         body.append(("repeat", rounds, block))
         body += [("clear", "n")] * rng.randint(0, 1) + maker.block(names, 0, 2) * rng.randint(0, 1)
         if rng.random() < 0.3:

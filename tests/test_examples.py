@@ -43,6 +43,95 @@ EXAMPLES = {
     >>> first_difference(one, other) == 10 ** 20
     True
 """,
+    "[30]": """
+    >>> from roundheap.blocks import block_move, shortest_block, spares_needed
+    >>> from roundheap.moves import Move
+    >>> one = block_move(1, ["a"], [], [("new", "a", "c")])
+    >>> [one.objects(), one.pools(), spares_needed(1, one)]
+    [[('pool', 1, 0)], {1: ([('object', 0)], 1)}, 0]
+    >>> swap = Move([("object", 1), ("object", 0)], {})
+    >>> shortest_block(1, ["a", "b"], [], swap, "c")
+    [('clear', 'b'), ('new', 'a', 'c'), ('new', 'b', 'c')]
+""",
+    "[46]": """
+    >>> from roundheap.programs import Program
+    >>> from roundheap.runs import Run
+    >>> classes = [("node", 1, [], False)]
+    >>> body = [("new", "x", "node"), ("new", "y", "node"), ("repeat", 10 ** 30, [("new", "z", "node"), ("copy", "x", "y"), ("copy", "y", "z"), ("clear", "z")])]
+    >>> run = Run(Program(classes, body, variables=["x", "y", "z"], weak=[], threshold=1, radices=[], functions=[]))
+    >>> run.rhythm((2,))
+    ('returns', 0, 1, 1)
+    >>> view = run.view((2, 10 ** 30 - 1, 0))
+    >>> [view.objects(), view.address(10 ** 30)]
+    [[999999999999999999999999999999, 1000000000000000000000000000000], (1, 1)]
+""",
+    "[54]": """
+    >>> from roundheap.programs import Program
+    >>> from roundheap.runs import Run
+    >>> from roundheap.growing import Growing
+    >>> classes = [("node", 1, ["next"], False)]
+    >>> body = [("new", "x", "node"), ("repeat", 10 ** 30, [("new", "y", "node"), ("store", "y", "next", "x"), ("copy", "x", "y")])]
+    >>> run = Run(Program(classes, body, variables=["x", "y"], weak=[], threshold=4, radices=[], functions=[]))
+    >>> run.rhythm((1,))
+    ('grows', 2, 4, 10)
+    >>> growing = Growing(run, (1,))
+    >>> [growing.count(), growing.number_at(0, 10 ** 29), growing.rule(3), growing.fates()]
+    [4, 400000000000000000000000000002, (0, 5, 5), [('stays',), ('left', 1, 0)]]
+""",
+    "[64]": """
+    >>> from roundheap.programs import Program
+    >>> from roundheap.runs import Run
+    >>> from roundheap.addresses import Addresses
+    >>> classes = [("node", 1, [], False)]
+    >>> inner = [("new", "z", "node"), ("copy", "x", "y"), ("copy", "y", "z"), ("clear", "z")]
+    >>> body = [("new", "x", "node"), ("new", "y", "node"), ("repeat", 10 ** 30, inner)]
+    >>> run = Run(Program(classes, body, variables=["x", "y", "z"], weak=[], threshold=1, radices=[], functions=[]))
+    >>> told = Addresses(run, (2,))
+    >>> [told.taken("y", 0), told.taken("y", 10 ** 30 - 1), told.all_back()]
+    [(1, 1), (1, 1), 3]
+    >>> [told.alike("x", "y", 0), told.alike("x", "x", 4), told.exchanged("x", "y", 0)]
+    [[(2, 3)], [(4, 3)], []]
+""",
+    "[77]": """
+    >>> from roundheap.programs import Program
+    >>> from roundheap.runs import Run
+    >>> from roundheap.keepers import certificate, cheapest_cut, retained
+    >>> from roundheap.endings import ended, waiting
+    >>> classes = [("node", 1, ["next"], False)]
+    >>> body = [("new", "x", "node"), ("new", "y", "node"), ("store", "x", "next", "y"), ("store", "y", "next", "x")]
+    >>> program = Program(classes, body, variables=["x", "y"], weak=[], threshold=3, radices=[], functions=[])
+    >>> view = Run(program).view((4,))
+    >>> [certificate(view, 1), retained(view, 1)]
+    [('live', [('variable', 0, 1)]), ((1,), 1)]
+    >>> cheapest_cut(view, [1])[:2]
+    (2, [('variable', 0, 1), ('field', 0, 'next')])
+    >>> ended(view, [("variable", 0, 0), ("variable", 0, 1)])
+    ([], [(0, 0, 1), (1, 0, 1)])
+    >>> ended(view, [("variable", 0, 0), ("variable", 0, 1), ("field", 0, "next")])
+    ([0, 1], [])
+""",
+    "[89]": """
+    >>> from roundheap.programs import Program
+    >>> from roundheap.runs import Run
+    >>> from roundheap.leaks import Strip, leak_cut
+    >>> classes = [("node", 1, ["next"], False)]
+    >>> body = [("repeat", 10 ** 30, [("new", "y", "node"), ("store", "y", "next", "x"), ("copy", "x", "y"), ("clear", "y")])]
+    >>> run = Run(Program(classes, body, variables=["x", "y"], weak=[], threshold=1, radices=[], functions=[]))
+    >>> [run.rhythm((0,))[0], leak_cut(run, (0,))[0]]
+    ['grows', 1]
+    >>> strip = Strip(run, (0,), 5)
+    >>> strip.cut(0, 3)[0]
+    [('field', ('left', 0, 4), 'next')]
+""",
+    "[99]": """
+    >>> from roundheap.programs import Program
+    >>> from roundheap.runs import Run
+    >>> from roundheap.comparing import block_differences
+    >>> classes = [("node", 1, [], False)]
+    >>> run = Run(Program(classes, [("new", "x", "node")], variables=["x"], weak=[], threshold=12, radices=[], functions=[]))
+    >>> block_differences(run, (1,), [("new", "x", "node")], [("clear", "x"), ("new", "x", "node")])
+    ['addresses']
+""",
 }
 
 
