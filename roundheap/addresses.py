@@ -114,7 +114,7 @@ def rows_with(course, turns, folds, wanted, count):
         row = row_from(turns, number, meeting_in(period, homes), count)
         if row is not None:
             rows.append(row)
-    return sorted(rows, key=lambda row: row[0])
+    return sorted(rows)
 
 
 def meeting_in(period, homes):

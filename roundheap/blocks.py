@@ -170,7 +170,7 @@ def block_for(size, names, spare, move, kind):
     block.extend([("new", name, kind) for name in exchanges(size, names, helpers, move)])
     block.extend([("new", name, kind) for name in names])
     # The first address of the pool is let go last.
-    block.extend([("clear", name) for name in reversed(helpers)])
+    block.extend([("clear", name) for name in helpers[::-1]])
     return block
 
 

@@ -2,7 +2,7 @@
 
 from roundheap.course import Course
 from roundheap.errors import InvalidArgument, InvalidProgram
-from roundheap.items import row_of_items
+from roundheap.logs import row_of_items
 from roundheap.memory import SIZES, pool_of
 from roundheap.periods import folded
 from roundheap.programs import check_functions, scope_for
@@ -10,8 +10,8 @@ from roundheap.runs import View
 from roundheap.sights import Sight, sight_at
 from roundheap.slots import is_left, leaving_of
 from roundheap.spots import found_spot
-from roundheap.states import state_of
 from roundheap.statements import copied_block, survey
+from roundheap.states import state_of
 from roundheap.traces import Turns, rounds_done
 from roundheap.words import Making, Word, first_difference
 from roundheap.world import names_of
@@ -130,7 +130,7 @@ def block_end(run, spot, block):
     course = done_block(sight, block)
     end = ("done",) if course.failed is None else ("failed", course.failed)
     memory = course.doer.tape.memory
-    parts = sight.parts + [(course.doer.items, 0, memory.logged, 1)]
+    parts = sight.parts + [(course.doer.written, 0, memory.logged, 1)]
     return (end, View(Sight(sight.world, memory, parts)))
 
 
@@ -142,7 +142,7 @@ def addresses_in(memory):
 
 def written_in(course):
     """The word that a block writes."""
-    items = course.doer.items
+    items = course.doer.written
     return Word(Making(row_of_items(items, 0, len(items)), 0, 1))
 
 

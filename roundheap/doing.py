@@ -10,7 +10,7 @@ from roundheap.memory import (
 class Doer:
     """What does statements: a memory that is changed, how often each object is referred to, what was touched.
 
-    `items` are the items of the log: entries, and rows for what was not done one by one.
+    `written` are the items of the log: entries, and rows for what was not done one by one.
     """
 
     def __init__(self, world, memory):
@@ -18,7 +18,7 @@ class Doer:
         self.tape = Tape(copied_memory(memory))
         self.counts = counted(memory)
         self.touches = []
-        self.items = []
+        self.written = []
         self.spot = ()
 
 
@@ -66,7 +66,7 @@ def lose(doer, number):
 
 
 def write(doer, word, tag):
-    doer.items.append((word, tag))
+    doer.written.append((word, tag))
     record(doer.tape, count_entry, None, None)
 
 

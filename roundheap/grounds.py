@@ -14,7 +14,7 @@ class Ground:
         self.taken_by = {memory.things[number].home: ("object", index) for index, number in enumerate(numbers)}
         for size in SIZES:
             free = memory.free[size]
-            for index, k in enumerate(reversed(free)):
+            for index, k in enumerate(free[::-1]):
                 self.taken_by[(size, k)] = ("pool", size, index)
 
 
@@ -48,6 +48,6 @@ def plan_between(ground, later):
     for size in SIZES:
         free = later.memory.free[size]
         if free or later.memory.behind[size] > 0:
-            front = [place_of(ground, (size, k)) for k in reversed(free)]
+            front = [place_of(ground, (size, k)) for k in free[::-1]]
             fronts[size] = (front, place_of(ground, (size, later.memory.behind[size]))[2])
     return Plan(heads, len(heads), fronts)

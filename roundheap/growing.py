@@ -3,7 +3,7 @@
 from roundheap.checks import is_count, is_size, is_within
 from roundheap.errors import InvalidArgument, InvalidNumber
 from roundheap.growth import fault_of
-from roundheap.items import row_of_items
+from roundheap.logs import row_of_items
 from roundheap.places import shift_of
 from roundheap.slots import births_in, first_homes, first_numbers, leaving_of, slot_home, slot_number, slot_shift
 from roundheap.spots import found_turns
@@ -25,7 +25,7 @@ class Growing:
     def __init__(self, run, spot):
         self._turns = grown_turns(run, spot)
         self._leaving = leaving_of(run._course.doer, self._turns)
-        self._items = run._course.doer.items
+        self._items = run._course.doer.written
 
     def rhythm(self):
         return (self._turns.first, self._turns.period)

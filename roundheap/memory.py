@@ -175,7 +175,7 @@ def memory_at(tape, mark):
 
 def pool_of(memory, size):
     """(free, behind) of a pool: the first address to be taken first, and free as short as possible."""
-    free = [k for k in reversed(memory.free[size])]
+    free = memory.free[size][::-1]
     behind = memory.behind[size]
     while free and free[-1] == behind - 1:
         free.pop()

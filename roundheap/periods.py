@@ -3,7 +3,7 @@
 from roundheap.doing import counted, memory_of
 from roundheap.grounds import Ground, plan_between
 from roundheap.growth import split_at
-from roundheap.items import row_of_items
+from roundheap.logs import row_of_items
 from roundheap.memory import fill_memory, higher, record
 from roundheap.rows import joined, repeated
 from roundheap.shifting import Shift, shifted_memory
@@ -108,16 +108,16 @@ def skip_rounds(course, turns):
     start = period.start
     q, rest = divmod(turns.times - start, turns.period)
     begin = memory_behind(doer, turns, start + rest)
-    whole = row_of_items(doer.items, period.before.logged, period.behind.logged)
-    part = row_of_items(doer.items, period.before.logged, begin.logged)
+    whole = row_of_items(doer.written, period.before.logged, period.behind.logged)
+    part = row_of_items(doer.written, period.before.logged, begin.logged)
     row = joined(repeated(whole, q - 1), part)
     if row.extent > 0:
-        doer.items.append(row)
+        doer.written.append(row)
     memory = shifted_memory(begin, Shift(period, q))
     now = memory_of(doer)
     memory.top = higher(now.top, far_top(course, period, q, begin.worked))
     memory.worked = now.worked
-    memory.logged = len(doer.items)
+    memory.logged = len(doer.written)
     note_touches(doer, period, q, start + rest)
     record(doer.tape, fill_memory, None, memory)
     doer.counts = counted(memory)

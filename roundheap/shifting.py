@@ -52,7 +52,7 @@ def shifted_home(shift, home):
 def shifted_pool(shift, memory, size):
     """(free, behind) of a pool, the first address to be taken last."""
     ground = shift.period.ground
-    homes = [(size, k) for k in reversed(memory.free[size])]
+    homes = [(size, k) for k in memory.free[size][::-1]]
     behind = memory.behind[size]
     front, fresh = front_of(shift.plan, size)
     base = len(ground.memory.free[size]) - ground.memory.behind[size]

@@ -1,6 +1,6 @@
 """Sights: the memory and the log at a spot of a course, however far it is."""
 
-from roundheap.items import row_of_items
+from roundheap.logs import row_of_items
 from roundheap.memory import higher, memory_at
 from roundheap.periods import far_top, period_told
 from roundheap.rows import joined, leaf_row, repeated
@@ -23,7 +23,7 @@ class Sight:
 
 def log_parts(course, folds, last):
     """The parts of the log up to an item, within folds."""
-    items = course.doer.items
+    items = course.doer.written
     parts = []
     begin = 0
     for fold in folds:
@@ -54,7 +54,7 @@ def folded_sight(course, memory, folds):
     top = memory.top
     last = memory.worked
     # The statements within folds were all done before: those of a fold further in are part of a period further out.
-    for fold in reversed(folds):
+    for fold in folds[::-1]:
         period = period_told(course.doer, fold.turns)
         shift = Shift(period, fold.times)
         later = shifted_memory(memory, shift)

@@ -5,8 +5,8 @@ which it refers may be left later, or have another index later.
 """
 
 from roundheap.memory import RETIRED
-from roundheap.slots import leaving_of, slot_number
 from roundheap.shifting import number_behind
+from roundheap.slots import leaving_of, slot_number
 
 
 class Heap:

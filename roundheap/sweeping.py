@@ -34,6 +34,8 @@ def lost_in(memory, level):
 
 def is_unsure(memory):
     """Whether an object that refers to a retired one cannot be reached without going through retired ones."""
+    if memory.gone[0] == 0:
+        return False
     reached = reached_from(memory, held_by_variables(memory))
     return any([RETIRED in memory.things[number].fields and number not in reached for number in memory.things])
 

@@ -33,6 +33,8 @@ NamedTuple TypedDict TYPE_CHECKING abstractmethod type""".split()
 SPECIAL = """__init__ __eq__ __repr__ __str__ __len__ __enter__ __exit__ __call__ __iter__ __lt__ __le__ __gt__ __ge__
 __ne__ __add__ __sub__ __mul__ __floordiv__ __mod__ __pow__ __and__ __or__ __xor__ __lshift__ __rshift__ __neg__ __pos__
 __invert__ __abs__ __bool__ __contains__ __getitem__ __setitem__""".split()
+ATTRIBUTES_THAT_ARE_BARRED = """items keys values pop update append clear extend insert remove reverse setdefault sort args
+encode decode hex fromhex format as_integer_ratio bit_count conjugate from_bytes is_integer to_bytes""".split()
 NODES = (ast.Global, ast.AsyncFunctionDef, ast.AsyncFor, ast.AsyncWith, ast.Await, ast.Import, ast.GeneratorExp, ast.Div)
 
 
@@ -223,6 +225,55 @@ class Code(unittest.TestCase):
                 if isinstance(node, ast.Attribute) and isinstance(node.ctx, ast.Store):
                     attributes.add(node.attr)
         self.assertEqual(methods & attributes, set())
+
+
+class Attributes(unittest.TestCase):
+    def test_attributes_are_assigned_through_local_names(self):
+        for name, tree in trees().items():
+            for node in ast.walk(tree):
+                if isinstance(node, ast.Attribute) and not isinstance(node.ctx, ast.Load):
+                    self.assertIsInstance(node.value, ast.Name, (name, node.lineno))
+                    self.assertNotIn(node.attr, ATTRIBUTES_THAT_ARE_BARRED, (name, node.lineno))
+
+    def test_attributes_that_are_read_are_assigned(self):
+        known = set(METHODS) | {"items", "keys", "values"}
+        for tree in trees().values():
+            known.update(node.name for node in functions_in(tree))
+            known.update(node.attr for node in ast.walk(tree) if isinstance(node, ast.Attribute) and isinstance(node.ctx, ast.Store))
+        for name, tree in trees().items():
+            for node in ast.walk(tree):
+                if isinstance(node, ast.Attribute):
+                    self.assertIn(node.attr, known, (name, node.lineno))
+
+
+class Loops(unittest.TestCase):
+    def changed_in(self, nodes):
+        """The texts of what is changed in some nodes: by methods, items, del and +=."""
+        changed = set()
+        for part in nodes:
+            for node in ast.walk(part):
+                if isinstance(node, ast.Call) and isinstance(node.func, ast.Attribute) and node.func.attr in CHANGING:
+                    changed.add(ast.unparse(node.func.value))
+                if isinstance(node, ast.Subscript) and not isinstance(node.ctx, ast.Load):
+                    changed.add(ast.unparse(node.value))
+                if isinstance(node, ast.AugAssign):
+                    changed.add(ast.unparse(node.target))
+        return changed
+
+    def test_what_is_iterated_over_is_not_changed(self):
+        for name, tree in trees().items():
+            for node in ast.walk(tree):
+                if isinstance(node, ast.For):
+                    copied = isinstance(node.iter, ast.Call) and isinstance(node.iter.func, ast.Name) and node.iter.func.id in ("list", "sorted", "range")
+                    names = set() if copied else {ast.unparse(part) for part in ast.walk(node.iter) if isinstance(part, (ast.Name, ast.Attribute))}
+                    self.assertEqual(names & self.changed_in(node.body), set(), (name, node.lineno))
+
+    def test_reversed_takes_copies(self):
+        for name, tree in trees().items():
+            for node in ast.walk(tree):
+                if isinstance(node, ast.Call) and isinstance(node.func, ast.Name) and node.func.id == "reversed":
+                    part = node.args[0]
+                    self.assertTrue(isinstance(part, ast.Call) and part.func.id in ("list", "tuple", "sorted", "range"), (name, node.lineno))
 
 
 class Operators(unittest.TestCase):
