@@ -5,7 +5,7 @@ from roundheap.errors import InvalidArgument, InvalidNumber
 from roundheap.growth import fault_of
 from roundheap.logs import row_of_items
 from roundheap.places import shift_of
-from roundheap.slots import births_in, first_homes, first_numbers, leaving_of, slot_home, slot_number, slot_shift
+from roundheap.slots import births_in, leaving_of, slot_home, slot_number, slot_shift
 from roundheap.spots import found_turns
 from roundheap.traces import rounds_done
 from roundheap.words import Making, Word
@@ -89,7 +89,7 @@ def rule_of(leaving, slot):
     """(k, number, address): from this period on, the least one, number and address rise by as much in each period."""
     births = births_in(leaving.period)
     shift = slot_shift(leaving, slot)
-    count = max(len(first_numbers(leaving, slot)), len(first_homes(leaving, slot))) - 1
+    count = max(len(slot.numbers), len(slot.homes)) - 1
     number = slot_number(leaving, slot, count)
     address = slot_home(leaving, slot, count)[1]
     while count > 0:

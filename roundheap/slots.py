@@ -2,18 +2,23 @@
 
 from roundheap.grounds import home_at, place_of
 from roundheap.periods import growing_period
-from roundheap.places import is_inner, origin_of
-from roundheap.plans import step_of
+from roundheap.places import is_inner, origin_of, shift_of
 
 
 class Slot:
-    """An object that the first period leaves: its index in the core at the beginning, or None if it was made then."""
+    """An object that the first period leaves: its index in the core at the beginning, or None if it was made then.
 
-    def __init__(self, number, index, place, thing):
+    `numbers` and `homes` are the numbers and the addresses of what the first periods leave here; from the last one on
+    they rise by as much in each period.
+    """
+
+    def __init__(self, period, number):
+        indexes = period.ground.indexes
         self.number = number
-        self.index = index
-        self.place = place
-        self.thing = thing
+        self.thing = period.behind.things[number]
+        self.index = indexes[number] if number in indexes else None
+        self.numbers = first_numbers(period, number, self.index)
+        self.homes = first_homes(period, self.thing.home)
 
 
 class Leaving:
@@ -21,15 +26,11 @@ class Leaving:
 
     def __init__(self, doer, turns):
         self.period = growing_period(doer, turns, 0)
-        ground = self.period.ground
-        behind = self.period.behind
         core = {number: True for number in self.period.nexts}
         self.slots = []
-        for number in behind.things:
+        for number in self.period.behind.things:
             if number not in core and number not in self.period.sunk:
-                thing = behind.things[number]
-                index = ground.indexes[number] if number in ground.indexes else None
-                self.slots.append(Slot(number, index, place_of(ground, thing.home), thing))
+                self.slots.append(Slot(self.period, number))
 
 
 def leaving_of(doer, turns):
@@ -44,32 +45,20 @@ def births_in(period):
     return period.behind.births - period.before.births
 
 
-def first_numbers(leaving, slot):
-    """The numbers of a slot in the first periods; from the last one on they rise by as many as a period makes."""
-    period = leaving.period
-    numbers = [slot.number]
-    index = slot.index
+def first_numbers(period, number, index):
+    """The numbers at a slot in the first periods, until they rise by as many as a period makes."""
+    numbers = [number]
     while index is not None:
-        number = period.nexts[index]
-        index = period.ground.indexes[number] if number in period.ground.indexes else None
-        numbers.append(number)
+        later = period.nexts[index]
+        index = period.ground.indexes[later] if later in period.ground.indexes else None
+        numbers.append(later)
     return numbers
 
 
-def slot_number(leaving, slot, count):
-    """The number of the object that a period leaves at a slot."""
-    numbers = first_numbers(leaving, slot)
-    last = len(numbers) - 1
-    if count <= last:
-        return numbers[count]
-    return numbers[last] + (count - last) * births_in(leaving.period)
-
-
-def first_homes(leaving, slot):
-    """The addresses of a slot in the first periods; from the last one on they rise by the shift of their pool."""
-    period = leaving.period
-    place = slot.place
-    homes = [home_at(period.ground, place)]
+def first_homes(period, home):
+    """The addresses at a slot in the first periods, until they rise by the shift of their pool."""
+    place = place_of(period.ground, home)
+    homes = [home]
     # A place behind the free addresses has one that was never taken.
     while is_inner(period.plan, place) or place[2] < len(period.before.free[place[1]]):
         place = origin_of(period.plan, place)
@@ -77,31 +66,36 @@ def first_homes(leaving, slot):
     return homes
 
 
+def slot_number(leaving, slot, count):
+    """The number of the object that a period leaves at a slot."""
+    last = len(slot.numbers) - 1
+    if count <= last:
+        return slot.numbers[count]
+    return slot.numbers[last] + (count - last) * births_in(leaving.period)
+
+
 def slot_shift(leaving, slot):
     """By how many places the pool of a slot moves up with each period."""
-    return step_of(leaving.period.plan, ("pool", slot.thing.home[0], 0))
+    return shift_of(leaving.period.plan, slot.thing.home[0])
 
 
 def slot_home(leaving, slot, count):
     """The address of the object that a period leaves at a slot."""
-    homes = first_homes(leaving, slot)
-    last = len(homes) - 1
+    last = len(slot.homes) - 1
     if count <= last:
-        return homes[count]
-    size, k = homes[last]
+        return slot.homes[count]
+    size, k = slot.homes[last]
     return (size, k + (count - last) * slot_shift(leaving, slot))
 
 
 def is_left(leaving, number, most):
     """Whether an object was left before the first period, or by one of so many periods."""
     if number in leaving.period.sunk:
-        return most >= 0
-    births = births_in(leaving.period)
+        return True
     for slot in leaving.slots:
-        numbers = first_numbers(leaving, slot)
-        if number in numbers:
-            return numbers.index(number) < most
-        count, rest = divmod(number - numbers[-1], births)
+        if number in slot.numbers:
+            return slot.numbers.index(number) < most
+        count, rest = divmod(number - slot.numbers[-1], births_in(leaving.period))
         if rest == 0 and count > 0:
-            return len(numbers) - 1 + count < most
+            return len(slot.numbers) - 1 + count < most
     return False
