@@ -113,10 +113,10 @@ def do_call(course, statement, passage, spot):
 def do_repeat(course, turns, spot):
     """Do rounds until all are over, a state returns, or the repeat is found to grow; then go on behind the last one."""
     doer = course.doer
-    known = {}
+    phases = course.world.phases
     states = {}
     note_round(doer, turns)
-    states[state_of(memory_of(doer), course.world.phases, known)] = 0
+    states[state_of(memory_of(doer), phases, turns.known)] = 0
     while len(turns.rounds) < turns.times:
         number = len(turns.rounds)
         passage = Passage(turns.text)
@@ -124,7 +124,7 @@ def do_repeat(course, turns, spot):
         if not do_block(course, passage, spot + (number,)):
             return False
         note_round(doer, turns)
-        state = state_of(memory_of(doer), course.world.phases, known)
+        state = state_of(memory_of(doer), phases, turns.known)
         if state in states:
             turns.kind = "returns"
             turns.first = states[state]

@@ -2,6 +2,7 @@
 
 from roundheap.doing import memory_of
 from roundheap.memory import RETIRED
+from roundheap.states import old_state
 from roundheap.traces import memory_behind, rounds_done
 
 
@@ -177,8 +178,10 @@ def is_even(row, first, middle, last):
 
 
 def are_even(turns, first, middle, last):
-    """Whether both periods made and did as much."""
-    return is_even(turns.births, first, middle, last) and is_even(turns.doings, first, middle, last)
+    """Whether both periods made, did and left as much, and left anything at all."""
+    if turns.sizes[last] <= turns.sizes[middle]:
+        return False
+    return all([is_even(row, first, middle, last) for row in (turns.sizes, turns.births, turns.doings)])
 
 
 def have_same_gaps(turns, middle, last):
@@ -197,26 +200,36 @@ def have_same_gaps(turns, middle, last):
     return True
 
 
+def rounds_alike(doer, turns):
+    """The earlier rounds, ascending, behind which the objects that the repeat has not made were as they are now.
+
+    All of these belong to the core and come first in it, so they are fellows of themselves. Only rounds behind which
+    there were more objects than behind some earlier one are told.
+    """
+    return turns.peers.setdefault(old_state(memory_of(doer), turns.births[0], turns.known), [])
+
+
 def growth_behind(doer, turns):
     """The shortest period with which a repeat is found to grow behind the rounds that are done; None if it is not.
 
     Both periods do the same if all conditions are fulfilled, so what is cheap to see rules out most of them.
     """
     last = rounds_done(turns)
-    sizes = turns.sizes
-    lows = turns.lows
-    if sizes[last] <= min(sizes[:last]):
+    if turns.sizes[last] == turns.leasts[last]:
         return None
+    alike = rounds_alike(doer, turns)
     low = last
-    middle = last
-    for first in range(last - 2, -1, -2):
-        middle -= 1
-        if lows[middle] < low:
-            low = lows[middle]
+    passed = last
+    for middle in alike[::-1]:
+        first = 2 * middle - last
+        if first < 0:
+            break
         # An object that was not touched in the first period, but is in the second one, rules out the condition "left".
-        if low < first or sizes[first] >= sizes[middle] or sizes[last] - sizes[middle] != sizes[middle] - sizes[first]:
+        low = min([low] + turns.lows[middle:passed])
+        passed = middle
+        if low < first or not are_even(turns, first, middle, last) or not have_same_gaps(turns, middle, last):
             continue
-        if are_even(turns, first, middle, last) and have_same_gaps(turns, middle, last):
-            if fault_of(doer, turns, first, last - middle) is None:
-                return last - middle
+        if fault_of(doer, turns, first, last - middle) is None:
+            return last - middle
+    alike.append(last)
     return None

@@ -3,6 +3,7 @@
 from roundheap.memory import RETIRED
 
 NIL = -2
+MADE = -3
 
 
 def indexes_in(memory):
@@ -13,17 +14,39 @@ def indexes_in(memory):
     return indexes
 
 
-def state_of(memory, phases, known):
-    """The state of a memory; `known` gives each row of an object a number, the same for the same rows."""
-    indexes = indexes_in(memory)
+def rows_of(memory, numbers, indexes, known):
+    """What some objects are like; `known` gives each row of an object a number, the same for the same rows."""
     rows = []
-    for number in memory.things:
+    for number in numbers:
         thing = memory.things[number]
         fields = tuple([indexes[value] for value in thing.fields])
         row = (thing.kind, thing.tag, thing.generation, number in memory.kept, fields)
         rows.append(known.setdefault(row, len(known)))
+    return tuple(rows)
+
+
+def values_of(memory, indexes):
+    """To what the variables of all open calls and the weak variables refer."""
     calls = []
     for frame in memory.frames:
         calls.append(tuple([(name, indexes[frame.held[name]]) for name in frame.held]))
-    faint = tuple([indexes[memory.faint[name]] for name in memory.faint])
-    return (memory.births % phases, tuple(calls), faint, tuple(rows))
+    return (tuple(calls), tuple([indexes[memory.faint[name]] for name in memory.faint]))
+
+
+def state_of(memory, phases, known):
+    """The state of a memory."""
+    indexes = indexes_in(memory)
+    rows = rows_of(memory, memory.things, indexes, known)
+    return (memory.births % phases, values_of(memory, indexes), rows)
+
+
+def old_state(memory, begun, known):
+    """The state of the objects whose numbers are less than one, as if all others were the same."""
+    indexes = indexes_in(memory)
+    old = []
+    for number in memory.things:
+        if number < begun:
+            old.append(number)
+        else:
+            indexes[number] = MADE
+    return (values_of(memory, indexes), rows_of(memory, old, indexes, known))

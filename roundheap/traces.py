@@ -28,9 +28,10 @@ class Turns:
     """A repeat: the rounds that were begun one by one, and whether it is "over", "returns" or "grows".
 
     For each number of rounds that were done to their end, from 0 on: `marks` are those behind them, `touched` how
-    many touches there were, `sizes` how many objects, `births` how many were made, `doings` how many statements done,
-    `helds` what the variables of the innermost call refer to: (number, address), or None. `lasts`, `gaps` and `lows`
-    tell in which rounds objects were touched, for repeats that may grow.
+    many touches there were, `sizes` how many objects, `leasts` the least of these so far, `births` how many were made,
+    `doings` how many statements done, `helds` what the variables of the innermost call refer to: (number, address), or
+    None. For repeats that may grow, `lasts`, `gaps` and `lows` tell in which rounds objects were touched, `peers`
+    behind which ones the objects were the same that it has not made. `known` are the rows of objects in states.
     """
 
     def __init__(self, times, text):
@@ -45,12 +46,15 @@ class Turns:
         self.marks = []
         self.touched = []
         self.sizes = []
+        self.leasts = []
         self.births = []
         self.doings = []
         self.helds = []
         self.lasts = {}
         self.gaps = []
         self.lows = []
+        self.peers = {}
+        self.known = {}
 
 
 def holding(memory, number):
@@ -63,7 +67,9 @@ def note_round(doer, turns):
     memory = memory_of(doer)
     turns.marks.append(mark_now(doer))
     turns.touched.append(len(doer.touches))
-    turns.sizes.append(len(memory.things))
+    many = len(memory.things)
+    turns.sizes.append(many)
+    turns.leasts.append(min(turns.leasts[-1], many) if turns.leasts else many)
     turns.births.append(memory.births)
     turns.doings.append(memory.done)
     held = memory.frames[-1].held

@@ -18,6 +18,7 @@ FAR = 10 ** 30
 NODE = ("node", 1, ["next"], False)
 HEAD = [("new", "y", "node"), ("store", "y", "next", "x"), ("copy", "x", "y")]
 TAIL = [("new", "y", "node"), ("store", "x", "next", "y"), ("copy", "x", "y")]
+HEAD_OF_V = [("new", "y", "node"), ("store", "y", "next", "v"), ("copy", "v", "y"), ("clear", "y")]
 
 
 def run_of(body, classes=(NODE,), variables=("x", "y", "z", "u"), weak=("w",), threshold=1, radices=(), functions=()):
@@ -164,6 +165,29 @@ class Conditions(Base):
                 fits = [period for period in range(1, last // 2 + 1)
                         if growth_fault(played.run, played.spot, last - 2 * period, period) is None]
                 self.assertEqual(fits[:1], [played.period] if last == rounds else [])
+
+    def rings(self, many, more):
+        """Two rings along which two variables go; each time the first one is back, a list grows."""
+        body = []
+        for name, count in (("x", many), ("z", more)):
+            links = [("new", "y", "node"), ("store", "y", "next", name), ("copy", name, "y")]
+            body += [("new", name, "node"), ("copy", "u", name), ("ifnil", "v", [("repeat", count - 1, links)], []),
+                     ("store", "u", "next", name)]
+        inner = [("load", "x", "x", "next"), ("load", "z", "z", "next"), ("ifsame", "x", "u", HEAD_OF_V, [])]
+        return body + [("copy", "u", "x"), ("clear", "y"), ("repeat", FAR, inner)]
+
+    def test_growth_that_is_found_late(self):
+        variables = ("x", "y", "z", "u", "v")
+        for many, more, rhythm in ((2, 3, ("grows", 4, 6, 16)), (4, 3, ("grows", 8, 12, 32)), (1, 1, ("grows", 2, 1, 4))):
+            run = run_of(self.rings(many, more), variables=variables)
+            self.assertEqual(run.rhythm((10,)), rhythm)
+            for last in range(2, rhythm[3] + 1):
+                fits = [period for period in range(1, last // 2 + 1)
+                        if growth_fault(run, (10,), last - 2 * period, period) is None]
+                self.assertEqual(fits[:1], [rhythm[2]] if last == rhythm[3] else [])
+        # Rings as long as these are gone along soon, too.
+        run = run_of(self.rings(40, 37), variables=variables)
+        self.assertEqual(run.rhythm((10,)), ("grows", 80, 1480, 3040))
 
     def test_a_state_that_returns_goes_first(self):
         run = run_of([("new", "x", "node"), ("repeat", FAR, [("ifnil", "y", TAIL[:1] + [("store", "x", "next", "y")], [])])])
