@@ -93,23 +93,27 @@ def block_move(size, names, spare, block):
     return move_on(bench, names)
 
 
+def is_among(place, many, size, fresh):
+    """Whether a place is one of so many objects, or of the first places of a pool."""
+    if place[0] == "object":
+        return place[1] < many
+    return place[1] == size and place[2] < fresh
+
+
 def spares_for(size, move):
-    """How many spare variables a block with a move needs; None if there is none."""
+    """How many spare variables a block with a move needs, if there may be any number; None if there is none."""
     pools = move.pools()
+    many = move._plan.many
     # A move may have more objects than a list.
-    if move._plan.many > MOST_NAMES or not all([other == size for other in pools]):
+    if many > MOST_NAMES or not all([other == size for other in pools]):
         return None
-    places = move.objects()
     front, fresh = pools[size] if size in pools else ([], 0)
     if len(front) != fresh:
         return None
     # As many places come from others as there are: if those are the same ones, it is a permutation.
-    named = places + front
-    own = [("object", index) for index in range(len(places))] + [("pool", size, index) for index in range(fresh)]
-    if not all([place in own for place in named]):
+    if not all([is_among(place, many, size, fresh) for place in move.objects() + front]):
         return None
-    spares = max(fresh - 1, 0)
-    return spares if spares <= MOST_NAMES else None
+    return max(fresh - 1, 0)
 
 
 def spares_needed(size, move):
@@ -118,7 +122,8 @@ def spares_needed(size, move):
         raise InvalidArgument("size")
     if not isinstance(move, Move):
         raise InvalidArgument("move")
-    return spares_for(size, move)
+    spares = spares_for(size, move)
+    return None if spares is None or spares > MOST_NAMES else spares
 
 
 def check_wish(size, names, spare, move, kind):

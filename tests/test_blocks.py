@@ -214,6 +214,12 @@ class Shortest(Base):
                 shortest_block(1, names, spare, identity(len(names)), "c")
             self.assertEqual(caught.exception.limit, 3)
         self.assertEqual(shortest_block(1, NAMES[:3], [], identity(3), "c"), [])
+        # More spare variables would be needed than there may be; so there is one with some number of variables.
+        nine = Move(objects(0, 1, 2, 3), {1: (pool(1, *([9] + list(range(1, 9)) + [0])), 10)})
+        self.assertEqual([spares_needed(1, nine), block_for(1, NAMES[:4], NAMES[4:12], nine, "c")], [None, None])
+        with self.assertRaises(LimitExceeded):
+            shortest_block(1, NAMES[:4], NAMES[4:12], nine, "c")
+        self.assertIsNone(shortest_block(1, NAMES[:3], [], Move(objects(0, 1, 2), nine.pools()), "c"))
         self.assertIsNone(shortest_block(1, NAMES[:3], [], Move(objects(0, 1, 2), {1: (pool(1, 1, 0), 2)}), "c"))
 
     def test_the_kind_is_used(self):
