@@ -4,15 +4,12 @@ from roundheap.course import Course
 from roundheap.errors import InvalidArgument, InvalidProgram
 from roundheap.logs import row_of_items
 from roundheap.memory import SIZES, pool_of
-from roundheap.periods import folded
 from roundheap.programs import check_functions, scope_for
 from roundheap.runs import View
 from roundheap.sights import Sight, sight_at
-from roundheap.slots import is_left, leaving_of
 from roundheap.spots import found_spot
 from roundheap.statements import copied_block, survey
 from roundheap.states import state_of
-from roundheap.traces import Turns, rounds_done
 from roundheap.words import Making, Word, first_difference
 from roundheap.world import names_of
 
@@ -29,42 +26,13 @@ def memories_at(run, first, last):
     return earlier, later
 
 
-def growths_at(course, spot):
-    """(repeat, rounds behind it) for the repeats in the body that have retired objects at a spot."""
-    found = []
-    for index in range(min(spot[0] + 1, len(course.root.text))):
-        turns = course.root.inner[index] if index in course.root.inner else None
-        if not isinstance(turns, Turns) or turns.kind != "grows":
-            continue
-        if index < spot[0]:
-            rounds = turns.times
-        else:
-            rounds = spot[1] if len(spot) > 1 else 0
-        if rounds > rounds_done(turns):
-            found.append((turns, rounds))
-    return found
-
-
-def is_retired(course, growths, number):
-    """Whether an object is one of those that such repeats have retired."""
-    for turns, rounds in growths:
-        periods = 1 + folded(turns, rounds)[0]
-        if number >= turns.births[0] and is_left(leaving_of(course.doer, turns), number, periods):
-            return True
-    return False
-
-
 def between(run, first, last):
     """(kept, gone, made): the objects at both spots, at the first one alone, at the last one alone."""
     earlier, later = memories_at(run, first, last)
-    course = run._course
-    before = growths_at(course, first)
-    behind = growths_at(course, last)
+    # Retired objects are in neither memory: one that is retired at a spot is not there at it.
     kept = [number for number in earlier.things if number in later.things]
     gone = [number for number in earlier.things if number not in later.things]
-    made = [number for number in later.things if number not in earlier.things]
-    gone = [number for number in gone if not is_retired(course, behind, number)]
-    return (kept, gone, [number for number in made if not is_retired(course, before, number)])
+    return (kept, gone, [number for number in later.things if number not in earlier.things])
 
 
 def made_between(run, first, last):

@@ -86,16 +86,3 @@ def slot_home(leaving, slot, count):
         return slot.homes[count]
     size, k = slot.homes[last]
     return (size, k + (count - last) * slot_shift(leaving, slot))
-
-
-def is_left(leaving, number, most):
-    """Whether an object was left before the first period, or by one of so many periods."""
-    if number in leaving.period.sunk:
-        return True
-    for slot in leaving.slots:
-        if number in slot.numbers:
-            return slot.numbers.index(number) < most
-        count, rest = divmod(number - slot.numbers[-1], births_in(leaving.period))
-        if rest == 0 and count > 0:
-            return len(slot.numbers) - 1 + count < most
-    return False

@@ -37,22 +37,8 @@ class Base(unittest.TestCase):
 
 
 def plain_between(plain, first, last):
-    one, other = plain.seen[first], plain.seen[last]
-    alive = plain.alive
-    return ([n for n in one["rows"] if n in other["rows"]],
-            [n for n in one["rows"] if n not in other["rows"] and n not in alive[last]],
-            [n for n in other["rows"] if n not in one["rows"] and n not in alive[first]])
-
-
-class Watching(Plain):
-    """A plain memory that also tells which objects there are at each spot, retired ones counted."""
-
-    alive = None
-
-    def look(self, spot):
-        super().look(spot)
-        self.alive = self.alive or {}
-        self.alive[spot] = set(self.objects)
+    one, other = plain.seen[first]["rows"], plain.seen[last]["rows"]
+    return ([n for n in one if n in other], [n for n in one if n not in other], [n for n in other if n not in one])
 
 
 class Between(Base):
@@ -62,7 +48,7 @@ class Between(Base):
             rng = random.Random(seed)
             program = growing_program(rng, 15) if seed % 2 else some_program(rng, 15)
             try:
-                plain = Watching(program).play()
+                plain = Plain(program).play()
                 run = Run(program)
             except (Grown, Touched, LimitExceeded):
                 continue
@@ -97,14 +83,15 @@ class Between(Base):
         run = run_of([("new", "x", "node"), ("repeat", FAR, HEAD)])
         rounds = run.rhythm((1,))[3]
         first, last = (1, rounds, 0), (1, 10 ** 29, 0)
-        # The objects of the near round are retired in the far one: they are neither kept nor gone.
-        self.assertEqual(between(run, first, last), ([0], [], [10 ** 29]))
+        # The objects of the near round are retired in the far one: they are at the first spot alone.
+        self.assertEqual(between(run, first, last), ([0], list(range(1, rounds + 1)), [10 ** 29]))
         self.assertEqual([made_between(run, first, last)["node"], freed_between(run, first, last)["node"]], [10 ** 29 - rounds, 10 ** 29 - 1])
-        self.assertEqual(between(run, (1, 10 ** 28, 0), (2,)), ([0], [], [FAR]))
+        self.assertEqual(between(run, (1, 10 ** 28, 0), (2,)), ([0], [10 ** 28], [FAR]))
         # Behind the last known round they are retired without a statement: there are more again when one goes back.
         ends = (1, rounds + 1, 0), (1, rounds, 4)
+        sunk = list(range(1, rounds + 1))
         self.assertEqual([between(run, *ends), freed_between(run, *ends)["node"], between(run, *ends[::-1])],
-                         [([0, rounds + 1], [], []), 0, ([0, rounds + 1], [], [])])
+                         [([0, rounds + 1], [], sunk), 0, ([0, rounds + 1], sunk, [])])
 
     def test_fewer_statements(self):
         functions = [("f", [], ["a"], [("new", "a", "node")], "a")]
