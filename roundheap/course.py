@@ -1,13 +1,14 @@
 """The course of a run: its blocks done one by one, and what each repeat did."""
 
-from roundheap.doing import Doer, assign, gain, mark_now, memory_of, set_variable, touch, value_of
+from roundheap.calls import begin_call, end_call, way_of
+from roundheap.doing import Doer, mark_now, memory_of
 from roundheap.errors import LimitExceeded
 from roundheap.growth import growth_behind, note_gaps
-from roundheap.memory import add_frame, count_step, end_frame, extent_of, record
+from roundheap.memory import count_step, extent_of, record
 from roundheap.periods import skip_rounds
 from roundheap.states import state_of
 from roundheap.sweeping import do_simple
-from roundheap.traces import Branch, Passage, Turns, note_round
+from roundheap.traces import Branch, Event, Passage, Step, Turns, note_round
 
 MOST_WORK = 20000
 MOST_OBJECTS = 200
@@ -16,16 +17,20 @@ MOST_OBJECTS = 200
 class Course:
     """A block that is done from a memory on, as far as it comes.
 
-    `tops` are numbers of objects and units behind each statement that was done one by one; `failed` is the spot at
-    which the course failed, or None.
+    `tops` are numbers of objects and units behind each statement that was done one by one; `events` are these
+    statements, and the skips of rounds that were not; `failed` is the spot at which the course failed, or None.
+    `tallies` and `drops` are what was reckoned of the events and of the changes once.
     """
 
     def __init__(self, world, memory, text, grows):
         self.world = world
-        self.doer = Doer(world, memory)
+        self.doer = Doer(world, memory, True)
         self.grows = grows
         self.labor = 0
         self.tops = []
+        self.events = []
+        self.tallies = {}
+        self.drops = None
         self.failed = None
         self.root = Passage(text)
         do_block(self, self.root, ())
@@ -44,7 +49,7 @@ def do_block(course, passage, path):
 def do_statement(course, passage, index, statement, spot):
     word = statement[0]
     if word == "repeat":
-        turns = Turns(statement[1], statement[2])
+        turns = Turns(len(spot), statement[1], statement[2])
         passage.inner[index] = turns
         return do_repeat(course, turns, spot)
     if word == "call":
@@ -72,41 +77,17 @@ def do_step(course, statement, spot):
     memory = memory_of(doer)
     if len(memory.things) > MOST_OBJECTS:
         raise LimitExceeded(MOST_OBJECTS)
+    course.events.append(Event(mark_now(doer), Step(spot, statement, extent_of(memory)), None))
     record(doer.tape, count_step, None, None)
     course.tops.append(extent_of(memory))
     return True
 
 
-def way_of(doer, statement, spot):
-    """Which block of an if is done."""
-    number = value_of(doer, statement[1])
-    if statement[0] == "ifnil":
-        return 0 if number is None else 1
-    other = value_of(doer, statement[2])
-    doer.spot = spot
-    touch(doer, number)
-    touch(doer, other)
-    return 0 if number == other else 1
-
-
 def do_call(course, statement, passage, spot):
-    _, target, name, arguments = statement
-    doer = course.doer
-    task = course.world.tasks[name]
-    doer.spot = spot
-    held = {variable: None for variable in task.names}
-    for variable, argument in zip(task.names, arguments):
-        held[variable] = value_of(doer, argument)
-        gain(doer, held[variable])
-    record(doer.tape, add_frame, name, held)
+    begin_call(course.doer, statement, spot)
     if not do_block(course, passage, spot):
         return False
-    doer.spot = spot + (len(passage.text),)
-    if target is not None:
-        set_variable(doer, len(memory_of(doer).frames) - 2, target, value_of(doer, task.result))
-    for variable in task.names:
-        assign(doer, variable, None)
-    record(doer.tape, end_frame, None, None)
+    end_call(course.doer, statement, spot + (len(passage.text),))
     return True
 
 
@@ -134,6 +115,7 @@ def do_repeat(course, turns, spot):
         if course.grows and len(spot) == 1 and has_grown(course, turns):
             break
     if len(turns.rounds) < turns.times:
+        course.events.append(Event(mark_now(doer), None, turns))
         skip_rounds(course, turns)
     return True
 

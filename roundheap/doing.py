@@ -10,15 +10,20 @@ from roundheap.memory import (
 class Doer:
     """What does statements: a memory that is changed, how often each object is referred to, what was touched.
 
-    `written` are the items of the log: entries, and rows for what was not done one by one.
+    `written` are the items of the log: entries, and rows for what was not done one by one. `falls` are the objects
+    in the order in which their freeing began, with their classes; `sweeps` are the collections that were done. One
+    that is `wary` does not do a collection that may concern retired objects.
     """
 
-    def __init__(self, world, memory):
+    def __init__(self, world, memory, keeps):
         self.world = world
-        self.tape = Tape(copied_memory(memory))
+        self.tape = Tape(copied_memory(memory), keeps)
         self.counts = counted(memory)
         self.touches = []
         self.written = []
+        self.falls = []
+        self.sweeps = []
+        self.wary = True
         self.spot = ()
 
 
@@ -74,6 +79,7 @@ def begin_freeing(doer, number):
     memory = memory_of(doer)
     thing = memory.things[number]
     touch(doer, number)
+    doer.falls.append((number, thing.kind))
     if doer.world.sorts[thing.kind].final:
         write(doer, "final", thing.tag)
     for name in list(memory.faint):

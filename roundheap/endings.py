@@ -6,13 +6,13 @@ from roundheap.world import stride_of
 
 
 class Ending:
-    """References that end one after the other: those that are left, and the objects that were freed."""
+    """References that end one after the other: those that are left, and the objects that were dropped (freed)."""
 
     def __init__(self, rows):
         self.left = dict(rows)
         self.fields = {}
         self.counts = {}
-        self.freed = []
+        self.dropped = []
         for reference, target in rows:
             if reference[0] == "field":
                 self.fields.setdefault(reference[1], []).append(reference)
@@ -26,7 +26,7 @@ def end(ending, reference):
         number, rest = ways.pop()
         if not rest:
             if number is not None:
-                ending.freed.append(number)
+                ending.dropped.append(number)
             continue
         ways.append((number, rest[1:]))
         if rest[0] not in ending.left:
@@ -66,7 +66,7 @@ def ended(view, references):
     for reference in references:
         end(ending, reference)
     left = [row for row in rows if row[0] in ending.left]
-    return (list(ending.freed), waiting_for(view, left, ending.freed))
+    return (list(ending.dropped), waiting_for(view, left, ending.dropped))
 
 
 def waiting(view):

@@ -35,19 +35,19 @@ class Growing:
 
     def steps(self):
         period = self._leaving.period
-        return period.behind.done - period.before.done
+        return period.behind.done - period.begin.done
 
     def log(self):
         period = self._leaving.period
-        return Word(Making(row_of_items(self._items, period.before.logged, period.behind.logged), 0, 1))
+        return Word(Making(row_of_items(self._items, period.begin.logged, period.behind.logged), 0, 1))
 
     def count(self):
         period = self._leaving.period
-        return len(period.behind.things) - len(period.before.things)
+        return len(period.behind.things) - len(period.begin.things)
 
     def units(self):
         period = self._leaving.period
-        return period.behind.bulk - period.before.bulk
+        return period.behind.bulk - period.begin.bulk
 
     def shift(self, size):
         if not is_size(size):

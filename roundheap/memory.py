@@ -144,17 +144,23 @@ def count_step(memory, _key, _value):
 
 
 class Tape:
-    """All changes of a memory one after the other, so that it can be told how it was at any mark among them."""
+    """All changes of a memory one after the other, so that it can be told how it was at any mark among them.
 
-    def __init__(self, memory):
+    One that does not keep its changes tells the memory as it is, and nothing else.
+    """
+
+    def __init__(self, memory, keeps):
         self.memory = memory
+        self.keeps = keeps
         self.changes = []
-        self.stops = [copied_memory(memory)]
+        self.stops = [copied_memory(memory)] if keeps else []
 
 
 def record(tape, action, key, value):
     """Do a change, and remember it."""
     action(tape.memory, key, value)
+    if not tape.keeps:
+        return
     tape.changes.append((action, key, value))
     if len(tape.changes) % STRETCH == 0:
         tape.stops.append(copied_memory(tape.memory))
@@ -171,6 +177,22 @@ def memory_at(tape, mark):
     for action, key, value in tape.changes[stop * STRETCH:mark]:
         action(memory, key, value)
     return memory
+
+
+class Reel:
+    """A tape that is gone along from its beginning; `memory` is as it was at the mark."""
+
+    def __init__(self, tape):
+        self.tape = tape
+        self.mark = 0
+        self.memory = copied_memory(tape.stops[0])
+
+
+def wind_to(reel, mark):
+    """Go along to a mark that is not behind."""
+    for action, key, value in reel.tape.changes[reel.mark:mark]:
+        action(reel.memory, key, value)
+    reel.mark = mark
 
 
 def pool_of(memory, size):

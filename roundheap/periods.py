@@ -13,15 +13,15 @@ from roundheap.traces import memory_behind, rounds_done
 class Period:
     """What a period of a repeat does, told by a period that was done one by one.
 
-    It is the one from round `start` on; `before` and `behind` are the memories at its ends. The objects of `ground`
+    It is the one from round `start` on; `begin` and `behind` are the memories at its ends. The objects of `ground`
     are those that are told by their indexes; `nexts` are the numbers of those with the same indexes one period later.
     `sunk` are the objects that the repeat has left behind, for one that grows.
     """
 
-    def __init__(self, turns, start, before, behind):
+    def __init__(self, turns, start, begin, behind):
         self.turns = turns
         self.start = start
-        self.before = before
+        self.begin = begin
         self.behind = behind
         self.ground = None
         self.nexts = []
@@ -89,11 +89,11 @@ def far_top(course, period, times, last):
     top = period.behind.top
     if not period.grows:
         return top
-    many = len(period.behind.things) - len(period.before.things)
-    units = period.behind.bulk - period.before.bulk
+    many = len(period.behind.things) - len(period.begin.things)
+    units = period.behind.bulk - period.begin.bulk
     # The last statement of a period may be the one with the most, or one of the round that is not over.
-    spans = [(times - 1, course.tops[period.before.worked:period.behind.worked])]
-    spans.append((times, course.tops[period.before.worked:last]))
+    spans = [(times - 1, course.tops[period.begin.worked:period.behind.worked])]
+    spans.append((times, course.tops[period.begin.worked:last]))
     for count, tops in spans:
         for one, other in tops:
             top = higher(top, (one + count * many, other + count * units))
@@ -108,8 +108,8 @@ def skip_rounds(course, turns):
     start = period.start
     q, rest = divmod(turns.times - start, turns.period)
     begin = memory_behind(doer, turns, start + rest)
-    whole = row_of_items(doer.written, period.before.logged, period.behind.logged)
-    part = row_of_items(doer.written, period.before.logged, begin.logged)
+    whole = row_of_items(doer.written, period.begin.logged, period.behind.logged)
+    part = row_of_items(doer.written, period.begin.logged, begin.logged)
     row = joined(repeated(whole, q - 1), part)
     if row.extent > 0:
         doer.written.append(row)

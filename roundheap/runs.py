@@ -1,11 +1,10 @@
 """Runs of programs, and views of their spots."""
 
-from roundheap.checks import is_integer, is_one_of, is_size
 from roundheap.course import Course
-from roundheap.errors import InvalidName, InvalidNumber
-from roundheap.memory import RETIRED, Memory, extent_of, pool_of
+from roundheap.memory import Memory, extent_of
 from roundheap.sights import row_of_parts, sight_at
 from roundheap.spots import found_spot, found_turns
+from roundheap.telling import thing_of, told_name, told_pool, told_row, told_values
 from roundheap.words import Making, Word
 from roundheap.world import World
 
@@ -39,15 +38,6 @@ class Run:
         return View(sight_at(self._course, found_spot(self._course, spot)))
 
 
-def told_value(value):
-    """A value as views tell it."""
-    return "retired" if value == RETIRED else value
-
-
-def told_values(held):
-    return {name: told_value(held[name]) for name in held}
-
-
 class View:
     """What there is at a spot of a run; it is made by `Run.view`."""
 
@@ -63,19 +53,13 @@ class View:
         return told_values(self._memory.faint)
 
     def value(self, name):
-        for held in (self._memory.frames[-1].held, self._memory.faint):
-            if is_one_of(name, held):
-                return told_value(held[name])
-        raise InvalidName(name)
+        return told_name(self._memory, name)
 
     def objects(self):
         return list(self._memory.things)
 
     def row(self, number):
-        thing = thing_of(self._memory, number)
-        names = self._world.sorts[thing.kind].fields
-        fields = {name: told_value(value) for name, value in zip(names, thing.fields)}
-        return (thing.kind, thing.tag, fields, thing.generation, thing.home)
+        return told_row(self._world, self._memory, number)
 
     def address(self, number):
         return thing_of(self._memory, number).home
@@ -105,12 +89,4 @@ class View:
         return self._memory.done
 
     def pool(self, size):
-        if not is_size(size):
-            raise InvalidNumber(size)
-        return pool_of(self._memory, size)
-
-
-def thing_of(memory, number):
-    if not is_integer(number) or number not in memory.things:
-        raise InvalidNumber(number)
-    return memory.things[number]
+        return told_pool(self._memory, size)

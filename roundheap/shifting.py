@@ -12,7 +12,7 @@ class Shift:
     def __init__(self, period, times):
         self.period = period
         self.times = times
-        self.births = times * (period.behind.births - period.before.births)
+        self.births = times * (period.behind.births - period.begin.births)
         self.plan = power_of(period.plan, times)
         self.known = {None: None, RETIRED: RETIRED}
         for number in period.sunk:
@@ -25,7 +25,7 @@ def number_behind(period, index, times):
     while times > 0:
         number = period.nexts[index]
         if number not in indexes:
-            return number + (times - 1) * (period.behind.births - period.before.births)
+            return number + (times - 1) * (period.behind.births - period.begin.births)
         # An object that has the same index behind the period stays.
         if indexes[number] == index:
             return number
@@ -82,7 +82,7 @@ def shifted_kept(shift, memory):
     """The objects to which retired ones refer: what has sunk is retired."""
     kept = {shifted_number(shift, number): True for number in memory.kept}
     for number in shift.period.sunk:
-        for value in shift.period.before.things[number].fields:
+        for value in shift.period.begin.things[number].fields:
             if value is not None and value not in shift.period.sunk:
                 kept[shifted_number(shift, value)] = True
     return kept
@@ -92,9 +92,9 @@ def shifted_gone(period, memory, times):
     """(count, units) of the retired objects."""
     if not period.grows:
         return memory.gone
-    many = len(period.sunk) + times * (len(period.behind.things) - len(period.before.things))
-    units = sum([period.before.things[number].home[0] for number in period.sunk])
-    units += times * (period.behind.bulk - period.before.bulk)
+    many = len(period.sunk) + times * (len(period.behind.things) - len(period.begin.things))
+    units = sum([period.begin.things[number].home[0] for number in period.sunk])
+    units += times * (period.behind.bulk - period.begin.bulk)
     return (memory.gone[0] + many, memory.gone[1] + units)
 
 
@@ -125,8 +125,8 @@ def shifted_memory(memory, shift):
     later.bulk = bulk_of(later)
     later.births = memory.births + shift.births
     for name in memory.made:
-        later.made[name] = memory.made[name] + times * (period.behind.made[name] - period.before.made[name])
-    later.done = memory.done + times * (period.behind.done - period.before.done)
+        later.made[name] = memory.made[name] + times * (period.behind.made[name] - period.begin.made[name])
+    later.done = memory.done + times * (period.behind.done - period.begin.done)
     later.worked = memory.worked
     return later
 

@@ -28,9 +28,9 @@ def log_parts(course, folds, last):
     begin = 0
     for fold in folds:
         period = period_told(course.doer, fold.turns)
-        parts.append((items, begin, period.before.logged, 1))
-        parts.append((items, period.before.logged, period.behind.logged, fold.times))
-        begin = period.before.logged
+        parts.append((items, begin, period.begin.logged, 1))
+        parts.append((items, period.begin.logged, period.behind.logged, fold.times))
+        begin = period.begin.logged
     parts.append((items, begin, last, 1))
     return parts
 

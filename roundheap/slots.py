@@ -42,7 +42,7 @@ def leaving_of(doer, turns):
 
 def births_in(period):
     """How many objects each period makes."""
-    return period.behind.births - period.before.births
+    return period.behind.births - period.begin.births
 
 
 def first_numbers(period, number, index):
@@ -60,7 +60,7 @@ def first_homes(period, home):
     place = place_of(period.ground, home)
     homes = [home]
     # A place behind the free addresses has one that was never taken.
-    while is_inner(period.plan, place) or place[2] < len(period.before.free[place[1]]):
+    while is_inner(period.plan, place) or place[2] < len(period.begin.free[place[1]]):
         place = origin_of(period.plan, place)
         homes.append(home_at(period.ground, place))
     return homes

@@ -67,7 +67,7 @@ def entered(heap, index, at, count):
         if indexes[number] == index:
             break
         index = indexes[number]
-    return ("old", period.before.things[period.ground.numbers[index]].fields[at])
+    return ("old", period.begin.things[period.ground.numbers[index]].fields[at])
 
 
 def old_target(heap, value):
@@ -105,7 +105,7 @@ def targets_of(heap, item):
         many = len(leaving.period.behind.things[number].fields)
         return [core_target(heap, item[1], at) for at in range(many)]
     if item[0] == "old":
-        fields = leaving.period.before.things[item[1]].fields
+        fields = leaving.period.begin.things[item[1]].fields
         return [None if value is None else old_target(heap, value) for value in fields]
     slot = leaving.slots[item[1]]
     targets = []
@@ -135,7 +135,7 @@ def sort_of(heap, item):
     """The name of the class of an object."""
     period = heap.leaving.period
     if item[0] == "old":
-        return period.before.things[item[1]].kind
+        return period.begin.things[item[1]].kind
     if item[0] == "left":
         return heap.leaving.slots[item[1]].thing.kind
     return period.behind.things[period.nexts[item[1]]].kind

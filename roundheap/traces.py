@@ -24,6 +24,27 @@ class Branch:
         self.passage = Passage(text)
 
 
+class Step:
+    """A simple statement that was done one by one and did not fail, and (objects, units) behind it."""
+
+    def __init__(self, spot, statement, extent):
+        self.spot = spot
+        self.statement = statement
+        self.extent = extent
+
+
+class Event:
+    """A step, or the skip of the rounds of a repeat that were not done one by one; `mark` is the one ahead of it.
+
+    Behind the change at this mark a step is counted, or the rounds are skipped.
+    """
+
+    def __init__(self, mark, deed, turns):
+        self.mark = mark
+        self.deed = deed
+        self.turns = turns
+
+
 class Turns:
     """A repeat: the rounds that were begun one by one, and whether it is "over", "returns" or "grows".
 
@@ -32,9 +53,11 @@ class Turns:
     `doings` how many statements done, `helds` what the variables of the innermost call refer to: (number, address), or
     None. For repeats that may grow, `lasts`, `gaps` and `lows` tell in which rounds objects were touched, `peers`
     behind which ones the objects were the same that it has not made. `known` are the rows of objects in states.
+    `depth` is the index of its rounds in spots.
     """
 
-    def __init__(self, times, text):
+    def __init__(self, depth, times, text):
+        self.depth = depth
         self.times = times
         self.text = text
         self.rounds = []
@@ -43,6 +66,7 @@ class Turns:
         self.period = 0
         self.told = None
         self.leaving = None
+        self.skip = None
         self.marks = []
         self.touched = []
         self.sizes = []

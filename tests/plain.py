@@ -3,6 +3,10 @@
 import copy
 
 
+# What grows with each statement, and is not needed to go on.
+SEEN = ("seen", "repeats", "births", "deaths", "sweeps", "order", "ahead", "copies", "wanted", "log", "freed")
+
+
 class Ended(Exception):
     """The run fails at a spot."""
 
@@ -388,6 +392,16 @@ class Plain:
         refers = {own.index(value) for n in left for value in rows[n]["fields"].values() if value in own}
         return leads, refers, reached
 
+    def lean_copy(self):
+        """A copy of what there is now, without what was seen before; the log is not copied but begun anew."""
+        kept = {name: self.__dict__[name] for name in SEEN if name in self.__dict__}
+        self.__dict__.update((name, type(value)()) for name, value in kept.items())
+        same = (self.program, self.classes, self.functions)
+        try:
+            return copy.deepcopy(self, {id(part): part for part in same})
+        finally:
+            self.__dict__.update(kept)
+
     def retire(self, repeat, number, block):
         """Which objects are retired behind a number of rounds of a repeat that grows."""
         if repeat.rhythm is None or repeat.rhythm[0] != "grows" or number <= repeat.rhythm[3]:
@@ -397,7 +411,7 @@ class Plain:
         start = middle + (number - middle) // period * period
         touched = repeat.touched[start:start + period]
         if len(touched) < period:
-            further = copy.deepcopy(self)
+            further = self.lean_copy()
             further.retired = list(repeat.before)
             further.grows = False
             while len(touched) < period:

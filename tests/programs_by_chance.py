@@ -166,3 +166,41 @@ def growing_program(rng, rounds):
         if rng.random() < 0.3:
             body.append(("repeat", 9, maker.block(["n", "m"], 1, 3)))
     return made_or_again(rng, rounds, growing_program, classes, body, maker, names, weak, threshold, radices)
+
+
+def ring_program(rng, rounds):
+    """A program in which rings of objects are made and let go."""
+    classes = [("a", 1, ["left", "right"], rng.random() < 0.3), ("b", 2, ["left"], rng.random() < 0.5)]
+    threshold, radices = rng.choice([(2, [2]), (1, [2, 2]), (2, [2, 2]), (3, [2]), (1, [3, 2]), (1, [2, 3]), (1, [2, 2, 2])])
+    names = ["x", "y", "z"]
+    block = []
+    for _ in range(rng.randint(4, 9)):
+        one, other = rng.choice(names), rng.choice(names)
+        field = rng.choice(["left", "right"])
+        store = ("ifnil", one, [("new", one, "a")], [("store", one, field if field == "left" else "left", other)])
+        chance = rng.random()
+        if chance < 0.25:
+            block.append(("new", one, rng.choice("aab")))
+        elif chance < 0.6:
+            block.append(store)
+        elif chance < 0.75:
+            block += [("new", one, "a"), ("store", one, field, one), ("store", one, "left" if field == "right" else "right", other)]
+        else:
+            block.append(rng.choice([("clear", one), ("copy", one, other), ("clear", one)]))
+    if rng.random() < 0.4:
+        block.insert(rng.randint(0, len(block)), ("collect", rng.randint(0, len(radices))))
+    return Program(classes, [("repeat", rounds, block)], variables=names, weak=[], threshold=threshold, radices=radices, functions=[])
+
+
+def holding_program(rng, rounds):
+    """A program with a ring that refers to an object of a list that grows, and is let go behind it."""
+    both = ("both", 1, ["next", "other"], rng.random() < 0.5)
+    push = [("new", "y", "node"), ("store", "y", "next", "x"), ("copy", "x", "y")]
+    hold = ("ifnil", "u", [("store", "h", "other", "y"), ("copy", "u", "y")], [])
+    begin = [("new", "h", "both"), ("store", "h", "next", "h"), ("new", "v", "both"), ("store", "v", "next", "v"), ("store", "v", "other", "h")]
+    threshold, radices = rng.choice([(2, [2]), (3, []), (2, []), (1, [2, 2]), (1, [3])])
+    end = [("clear", "y"), ("clear", "v"), ("clear", "h"), ("wipe", "v", "next"), ("wipe", "v", "other")]
+    body = begin[:rng.choice([2, 5])] + [("collect", 0)] * rng.randint(0, 3) + [("repeat", rounds, push + [hold])]
+    names = [statement[1] for statement in begin if statement in body]
+    body += rng.sample([statement for statement in end if statement[1] in names + ["y"]], rng.choice([2, 2, 3]) if "v" in names else 2)
+    return Program([("node", 1, ["next"], False), both], body, variables=["x", "y", "u", "h", "v"], weak=[], threshold=threshold, radices=radices, functions=[])

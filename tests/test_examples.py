@@ -92,6 +92,58 @@ EXAMPLES = {
     >>> [told.alike("x", "y", 0), told.alike("x", "x", 4), told.exchanged("x", "y", 0)]
     [[(2, 3)], [(4, 3)], []]
 """,
+    "[24]": """
+    >>> from roundheap.programs import Program
+    >>> from roundheap.machine import Machine
+    >>> classes = [("node", 1, ["next"], False)]
+    >>> body = [("new", "x", "node"), ("repeat", 3, [("new", "y", "node"), ("store", "y", "next", "x"), ("copy", "x", "y")])]
+    >>> program = Program(classes, body, variables=["x", "y"], weak=[], threshold=4, radices=[], functions=[])
+    >>> machine = Machine(program)
+    >>> [machine.steps(100), machine.objects(), machine.row(3)]
+    [10, [0, 1, 2, 3], ('node', 'node', {'next': 2}, 0, (1, 3))]
+""",
+    "[60]": """
+    >>> from roundheap.programs import Program
+    >>> from roundheap.runs import Run
+    >>> from roundheap.lives import born, died, holder, made_as
+    >>> classes = [("node", 1, [], False)]
+    >>> inner = [("new", "z", "node"), ("copy", "x", "y"), ("copy", "y", "z"), ("clear", "z")]
+    >>> body = [("new", "x", "node"), ("new", "y", "node"), ("repeat", 10 ** 30, inner)]
+    >>> run = Run(Program(classes, body, variables=["x", "y", "z"], weak=[], threshold=1, radices=[], functions=[]))
+    >>> [born(run, 2), died(run, 0), died(run, 10 ** 30 + 1), made_as(run, 2)]
+    [(2, 0, 0), ((2, 0, 1), 'count'), None, ('node', (1, 2))]
+    >>> [died(run, 10 ** 29) == ((2, 10 ** 29, 1), "count"), holder(run, (2, 3, 0), (1, 0)), holder(run, (2, 3, 0), (1, 2))]
+    [True, ('object', 3), ('pool', 0)]
+""",
+    "[70]": """
+    >>> from roundheap.programs import Program
+    >>> from roundheap.runs import Run
+    >>> from roundheap.sweeps import Waiting, sweep, sweep_of, swept
+    >>> body = [("repeat", 10 ** 30, [("new", "x", "ring"), ("store", "x", "next", "x"), ("clear", "x")])]
+    >>> ring = ("ring", 1, ["next"], False)
+    >>> run = Run(Program([ring], body, variables=["x"], weak=[], threshold=2, radices=[2], functions=[]))
+    >>> [sweep(run, number).freed() for number in (1, 2, 3, 4)]
+    [[0], [1, 2], [4], [3, 5, 6]]
+    >>> [number - 10 ** 30 for number in sweep(run, 5 * 10 ** 29).lost()]
+    [-5, -3, -2]
+    >>> [swept(run, 0, 4), swept(run, 0, 5 * 10 ** 29) - 10 ** 30, sweep_of(run, 10 ** 30)]
+    [7, -1, None]
+    >>> waiting = Waiting(run, (0, 6, 0))
+    >>> [waiting.dead(), waiting.level_for(3), waiting.walk(3)]
+    [[3, 5], 1, [3, 3]]
+""",
+    "[94]": """
+    >>> from roundheap.passes import lowering_clears, removable, simplified
+    >>> from roundheap.programs import Program
+    >>> body = [("new", "x", "node"), ("new", "y", "node"), ("emit", "y")]
+    >>> program = Program([("node", 1, [], False)], body, variables=["x", "y"], weak=[], threshold=1, radices=[], functions=[])
+    >>> [removable(program), lowering_clears(program)]
+    [[(0,)], [((1,), 'x', 1)]]
+    >>> body = [("copy", "x", "x"), ("repeat", 1, [("repeat", 10 ** 15, [("repeat", 10 ** 15, [("new", "y", "node")])])])]
+    >>> other = Program([("node", 1, [], False)], body, variables=["x", "y"], weak=[], threshold=1, radices=[], functions=[])
+    >>> simplified(other).body() == [("repeat", 10 ** 30, [("new", "y", "node")])]
+    True
+""",
     "[77]": """
     >>> from roundheap.programs import Program
     >>> from roundheap.runs import Run
