@@ -89,7 +89,7 @@ def done_block(sight, block):
     memory = sight.memory
     memory.worked = 0
     memory.logged = 0
-    return Course(sight.world, memory, text, False)
+    return Course(sight.world, memory, text, False, None)
 
 
 def block_end(run, spot, block):

@@ -10,7 +10,7 @@ SIGHTS = {"nil": 1, "some": 1, "same": 2, "unlike": 2}
 
 def is_simple(word):
     """Whether a value of any kind is the first word of a simple statement."""
-    return is_one_of(word, ACTIONS) or is_one_of(word, ["collect"])
+    return is_one_of(word, list(ACTIONS) + ["collect"])
 
 
 def statement_in(block, place):

@@ -6,9 +6,9 @@ from roundheap.errors import LimitExceeded
 from roundheap.growth import growth_behind, note_gaps
 from roundheap.memory import count_step, extent_of, record
 from roundheap.periods import skip_rounds
-from roundheap.states import state_of
+from roundheap.states import Likes, all_rows, outline_of
 from roundheap.sweeping import do_simple
-from roundheap.traces import Branch, Event, Passage, Step, Turns, note_round
+from roundheap.traces import Branch, Event, Passage, Step, Turns, memory_behind, note_round, rounds_done
 
 MOST_WORK = 20000
 MOST_OBJECTS = 200
@@ -19,13 +19,15 @@ class Course:
 
     `tops` are numbers of objects and units behind each statement that was done one by one; `events` are these
     statements, and the skips of rounds that were not; `failed` is the spot at which the course failed, or None.
-    `tallies` and `drops` are what was reckoned of the events and of the changes once.
+    `tallies` and `drops` are what was reckoned of the events and of the changes once. With a number `most`, a course
+    with more objects than this is of no use, and is given up.
     """
 
-    def __init__(self, world, memory, text, grows):
+    def __init__(self, world, memory, text, grows, most):
         self.world = world
         self.doer = Doer(world, memory, True)
         self.grows = grows
+        self.most = most
         self.labor = 0
         self.tops = []
         self.events = []
@@ -77,9 +79,12 @@ def do_step(course, statement, spot):
     memory = memory_of(doer)
     if len(memory.things) > MOST_OBJECTS:
         raise LimitExceeded(MOST_OBJECTS)
-    course.events.append(Event(mark_now(doer), Step(spot, statement, extent_of(memory)), None))
+    extent = extent_of(memory)
+    if course.most is not None and extent[0] > course.most:
+        raise LimitExceeded(course.most)
+    course.events.append(Event(mark_now(doer), Step(spot, statement, extent), None))
     record(doer.tape, count_step, None, None)
-    course.tops.append(extent_of(memory))
+    course.tops.append(extent)
     return True
 
 
@@ -94,10 +99,9 @@ def do_call(course, statement, passage, spot):
 def do_repeat(course, turns, spot):
     """Do rounds until all are over, a state returns, or the repeat is found to grow; then go on behind the last one."""
     doer = course.doer
-    phases = course.world.phases
-    states = {}
+    outlines = {}
     note_round(doer, turns)
-    states[state_of(memory_of(doer), phases, turns.known)] = 0
+    note_state(course, turns, outlines)
     while len(turns.rounds) < turns.times:
         number = len(turns.rounds)
         passage = Passage(turns.text)
@@ -105,19 +109,36 @@ def do_repeat(course, turns, spot):
         if not do_block(course, passage, spot + (number,)):
             return False
         note_round(doer, turns)
-        state = state_of(memory_of(doer), phases, turns.known)
-        if state in states:
+        first = note_state(course, turns, outlines)
+        if first is not None:
             turns.kind = "returns"
-            turns.first = states[state]
-            turns.period = number + 1 - turns.first
+            turns.first = first
+            turns.period = number + 1 - first
             break
-        states[state] = number + 1
         if course.grows and len(spot) == 1 and has_grown(course, turns):
             break
     if len(turns.rounds) < turns.times:
         course.events.append(Event(mark_now(doer), None, turns))
         skip_rounds(course, turns)
     return True
+
+
+def note_state(course, turns, outlines):
+    """Remember the state behind the rounds that are done; the earlier number of rounds with this state, or None."""
+    memory = memory_of(course.doer)
+    number = rounds_done(turns)
+    outline = outline_of(memory, course.world.phases)
+    if outline not in outlines:
+        outlines[outline] = Likes(number)
+        return None
+    likes = outlines[outline]
+    if not likes.rounds:
+        earlier = memory_behind(course.doer, turns, likes.first)
+        likes.rounds[all_rows(earlier, turns.known)] = likes.first
+    rows = all_rows(memory, turns.known)
+    if rows not in likes.rounds:
+        likes.rounds[rows] = number
+    return likes.rounds[rows] if likes.rounds[rows] < number else None
 
 
 def has_grown(course, turns):

@@ -4,8 +4,11 @@ from roundheap.checks import is_count
 from roundheap.errors import InvalidArgument, RunError
 from roundheap.programs import Program
 from roundheap.rules import simple_block
-from roundheap.runs import Run
+from roundheap.runs import course_of, last_spot_of
+from roundheap.sights import row_of_parts, sight_at
+from roundheap.spots import found_spot
 from roundheap.visits import holding_places
+from roundheap.words import Making, Word
 
 
 def places_in(block, ahead, ends):
@@ -93,34 +96,34 @@ def simplified(program):
 class Outcome:
     """How a run ends, its log, and the most objects that there were."""
 
-    def __init__(self, run):
-        view = run.view(run.last_spot())
-        self.way = run.ended()[0]
-        self.word = view.log()
-        self.most = view.peak()[0]
+    def __init__(self, course):
+        sight = sight_at(course, found_spot(course, last_spot_of(course)))
+        self.fine = course.failed is None
+        self.word = Word(Making(row_of_parts(sight.parts), 0, 1))
+        self.most = sight.memory.top[0]
 
 
 def end_alike(one, other):
-    return one.way == other.way and one.word == other.word
+    return one.fine == other.fine and one.word == other.word
 
 
 def same_log(one, other):
     """Whether the runs of two programs end alike with the same log."""
-    first = Outcome(Run(one))
-    return end_alike(first, Outcome(Run(other)))
+    first = Outcome(course_of(one, None))
+    return end_alike(first, Outcome(course_of(other, None)))
 
 
 def outcome_of(program):
     """How a program's run ends; None if it raises an error."""
     try:
-        return Outcome(Run(program))
+        return Outcome(course_of(program, None))
     except RunError:
         return None
 
 
 def removable(program):
     """The places of the statements each of which can be left out alone, and nothing is changed."""
-    whole = Outcome(Run(program))
+    whole = Outcome(course_of(program, None))
     found = []
     for place in places(program):
         outcome = outcome_of(without(program, place))
@@ -129,24 +132,24 @@ def removable(program):
     return found
 
 
-def cleared(program, place, name):
-    """How the run ends if a variable is cleared at a place; None if there is no such program or run."""
+def cleared(program, place, name, most):
+    """How the run ends if a variable is cleared at a place; None if it raises an error, or has too many objects."""
     try:
-        return Outcome(Run(with_statement(program, place, ("clear", name))))
+        return Outcome(course_of(with_statement(program, place, ("clear", name)), most))
     except RunError:
         return None
 
 
 def lowering_clears(program):
     """The tuples (place, variable, peak) of each clear that alone lowers the peak, and changes nothing else."""
-    run = Run(program)
-    whole = Outcome(run)
-    held = holding_places(run._course)
+    course = course_of(program, None)
+    whole = Outcome(course)
+    held = holding_places(course)
     found = []
     for place in held:
         # Elsewhere the variable is nil whenever the run comes by, and a clear does nothing.
         for name in held[place]:
-            outcome = cleared(program, place, name)
+            outcome = cleared(program, place, name, whole.most - 1)
             if outcome is not None and outcome.most < whole.most and end_alike(whole, outcome):
                 found.append((place, name, outcome.most))
     return sorted(found)

@@ -13,17 +13,14 @@ class Run:
     """The whole run of a program; repeats whose later rounds are known are not done to their end."""
 
     def __init__(self, program):
-        world = World(program)
-        memory = Memory(world.names, world.faint, list(world.sorts))
-        self._course = Course(world, memory, world.text, True)
+        self._course = course_of(program, None)
 
     def ended(self):
         failed = self._course.failed
         return ("done",) if failed is None else ("failed", failed)
 
     def last_spot(self):
-        failed = self._course.failed
-        return (len(self._course.root.text),) if failed is None else failed
+        return last_spot_of(self._course)
 
     def work(self):
         return self._course.labor
@@ -36,6 +33,16 @@ class Run:
 
     def view(self, spot):
         return View(sight_at(self._course, found_spot(self._course, spot)))
+
+
+def course_of(program, most):
+    """The course of a whole program; one with more objects than some number is given up."""
+    world = World(program)
+    return Course(world, Memory(world.names, world.faint, list(world.sorts)), world.text, True, most)
+
+
+def last_spot_of(course):
+    return (len(course.root.text),) if course.failed is None else course.failed
 
 
 class View:

@@ -40,6 +40,27 @@ def state_of(memory, phases, known):
     return (memory.births % phases, values_of(memory, indexes), rows)
 
 
+class Likes:
+    """The rounds of a repeat behind which variables, and how many objects were made, were alike.
+
+    `rounds` leads from the rows of all objects to the number of rounds. The rows behind the `first` one are not
+    reckoned until there is a second one: mostly there is none.
+    """
+
+    def __init__(self, first):
+        self.first = first
+        self.rounds = {}
+
+
+def outline_of(memory, phases):
+    """What of a state is seen soon: states with different outlines are different."""
+    return (memory.births % phases, values_of(memory, indexes_in(memory)))
+
+
+def all_rows(memory, known):
+    return rows_of(memory, memory.things, indexes_in(memory), known)
+
+
 def old_state(memory, begun, known):
     """The state of the objects whose numbers are less than one, as if all others were the same."""
     indexes = indexes_in(memory)

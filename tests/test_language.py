@@ -163,6 +163,19 @@ class Modules(unittest.TestCase):
                     seen.append(node.name)
             self.assertEqual(len(seen), len(set(seen)), name)
 
+    def test_tables_are_only_read(self):
+        tables = set()
+        for tree in trees().values():
+            tables.update(node.targets[0].id for node in tree.body if isinstance(node, ast.Assign) and isinstance(node.value, (ast.List, ast.Dict)))
+        self.assertIn("ACTIONS", tables)
+        for name, tree in trees().items():
+            above = {child: node for node in ast.walk(tree) for child in ast.iter_child_nodes(node)}
+            for node in ast.walk(tree):
+                if isinstance(node, ast.Name) and node.id in tables and isinstance(node.ctx, ast.Load):
+                    user = above[node]
+                    copied = isinstance(user, ast.Call) and isinstance(user.func, ast.Name) and user.func.id in ("len", "list", "dict", "sorted")
+                    self.assertTrue(copied or isinstance(user, (ast.Subscript, ast.Compare, ast.For, ast.comprehension)), (name, node.lineno))
+
     def test_no_other_binding_of_classes_and_imports(self):
         for name, tree in trees().items():
             outer = [node.name for node in tree.body if isinstance(node, ast.ClassDef)]
