@@ -3,7 +3,7 @@
 from roundheap.calls import begin_call, end_call, way_of
 from roundheap.doing import Doer, mark_now, memory_of
 from roundheap.errors import LimitExceeded
-from roundheap.growth import growth_behind, note_gaps
+from roundheap.growth import growth_behind, note_forms, note_gaps
 from roundheap.memory import count_step, extent_of, record
 from roundheap.periods import skip_rounds
 from roundheap.states import Likes, all_rows, outline_of
@@ -144,6 +144,7 @@ def note_state(course, turns, outlines):
 def has_grown(course, turns):
     """Whether the repeat is found to grow behind the rounds that are done."""
     note_gaps(course.doer, turns)
+    note_forms(course.doer, turns)
     period = growth_behind(course.doer, turns)
     if period is None:
         return False

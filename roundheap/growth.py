@@ -6,6 +6,9 @@ from roundheap.states import old_state
 from roundheap.traces import memory_behind, rounds_done
 
 
+FEW_ROUNDS = 50
+
+
 class Share:
     """What there is behind a number of rounds: the objects that the repeat goes on with, and those it has left.
 
@@ -145,6 +148,35 @@ def fault_of(doer, turns, first, period):
     return None
 
 
+def signs_between(numbers, others):
+    """Which ones of some numbers are less than, equal to, or greater than others."""
+    return tuple([1 if one < other else 0 if one == other else -1 for one, other in zip(numbers, others)])
+
+
+def note_forms(doer, turns):
+    """Remember for the last round in which order the numbers of the touched objects are.
+
+    `forms` tell this among the objects of the round, `links` between these and those of the round ahead of it.
+    """
+    ends = turns.touched[-3:]
+    now = doer.touches[ends[-2]:ends[-1]]
+    before = doer.touches[ends[0]:ends[1]] if len(ends) == 3 else []
+    form = signs_between(now, now[1:])
+    link = (form, signs_between(before, now))
+    turns.forms.append(turns.ids.setdefault(form, len(turns.ids)))
+    turns.links.append(turns.ids.setdefault(link, len(turns.ids)))
+
+
+def have_same_forms(turns, first, middle, last):
+    """Whether two periods touch objects in the same order: what they touch are fellows, or made alike."""
+    links = turns.links
+    # Mostly the last rounds differ already.
+    few = min(last - middle - 1, FEW_ROUNDS)
+    if turns.forms[first] != turns.forms[middle] or links[middle - few:middle] != links[last - few:last]:
+        return False
+    return links[first + 1:middle] == links[middle + 1:last]
+
+
 def note_gaps(doer, turns):
     """Remember for the last round how long ago each object was touched that is touched in it.
 
@@ -179,9 +211,9 @@ def is_even(row, first, middle, last):
 
 def are_even(turns, first, middle, last):
     """Whether both periods made, did and left as much, and left anything at all."""
-    if turns.sizes[last] <= turns.sizes[middle]:
+    if turns.sizes[last] <= turns.sizes[middle] or not is_even(turns.sizes, first, middle, last):
         return False
-    return all([is_even(row, first, middle, last) for row in (turns.sizes, turns.births, turns.doings)])
+    return is_even(turns.births, first, middle, last) and is_even(turns.doings, first, middle, last)
 
 
 def have_same_gaps(turns, middle, last):
@@ -227,7 +259,9 @@ def growth_behind(doer, turns):
         # An object that was not touched in the first period, but is in the second one, rules out the condition "left".
         low = min([low] + turns.lows[middle:passed])
         passed = middle
-        if low < first or not are_even(turns, first, middle, last) or not have_same_gaps(turns, middle, last):
+        if low < first or not are_even(turns, first, middle, last):
+            continue
+        if not have_same_forms(turns, first, middle, last) or not have_same_gaps(turns, middle, last):
             continue
         if fault_of(doer, turns, first, last - middle) is None:
             return last - middle

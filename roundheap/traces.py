@@ -51,8 +51,9 @@ class Turns:
     For each number of rounds that were done to their end, from 0 on: `marks` are those behind them, `touched` how
     many touches there were, `sizes` how many objects, `leasts` the least of these so far, `births` how many were made,
     `doings` how many statements done, `helds` what the variables of the innermost call refer to: (number, address), or
-    None. For repeats that may grow, `lasts`, `gaps` and `lows` tell in which rounds objects were touched, `peers`
-    behind which ones the objects were the same that it has not made. `known` are the rows of objects in states.
+    None. For repeats that may grow, `lasts`, `gaps` and `lows` tell in which rounds objects were touched, `forms` and
+    `links` in which order (as numbers from `ids`), `peers` behind which ones the objects were the same that it has not
+    made. `known` are the rows of objects in states.
     `depth` is the index of its rounds in spots.
     """
 
@@ -76,6 +77,9 @@ class Turns:
         self.helds = []
         self.lasts = {}
         self.gaps = []
+        self.forms = []
+        self.links = []
+        self.ids = {}
         self.lows = []
         self.peers = {}
         self.known = {}

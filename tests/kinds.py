@@ -6,9 +6,13 @@ from roundheap import errors
 from roundheap.addresses import Addresses
 from roundheap.growing import Growing
 from roundheap.leaks import Strip
+from roundheap.machine import Machine
 from roundheap.moves import Move
+from roundheap.probes import Probe
 from roundheap.programs import Program
 from roundheap.runs import Run
+from roundheap.sweeps import Sweep, Waiting
+from roundheap.watches import Watch
 from roundheap.words import Word
 
 HUGE = 10 ** 5000
@@ -25,6 +29,12 @@ def grown():
     """A run of a list that grows at its head in a repeat at (0,)."""
     body = [("repeat", 10 ** 30, [("new", "y", "node"), ("store", "y", "next", "x"), ("copy", "x", "y"), ("clear", "y")])]
     return Run(make(body=body))
+
+
+def rings(number, is_sweep=True):
+    """A sweep of a run that lets rings go, or that run."""
+    run = Run(make(body=[("repeat", 9, [("new", "x", "node"), ("store", "x", "next", "x"), ("clear", "x")])]))
+    return Sweep(run, (0, number, 0)) if is_sweep else run
 
 
 def deep_list(depth):
@@ -65,7 +75,10 @@ def odd_values():
         ("field", 0, "next"), ("field", False, "next"), ("old", 0), ("left", 0, 0), ("left", False, 0), ("core", 0),
         ("core", True), [[]], [()], [("variable", 0, 0)], ("live", []), ("dead", ()), ("live", None), ("dead", [0]),
         (0,), (False,), (0, 0), (0, 0, 0), (-1,), (0.0,), (HUGE,), [0], [True], [0, 0], [None], {(): 1}, {("field",): 1},
-        ([], -1), [([], 1)], [(None, 0)], make(),
+        ([], -1), [([], 1)], [(None, 0)], Machine(make()), Probe(grown(), []), Watch(0, [{}]), Watch, Sweep,
+        rings(1), rings(3), Waiting(rings(3, False), (0,)), Waiting(rings(3, False), (0, 2, 1)),
+        [rings(3)], (rings(3),), [{}], [{("emit", "a"): 0}], [("emit", "a"), 3], [("nil", "x")], ("nil", "x"), [[3, 3]],
+        make(),
     ]
 
 
