@@ -264,7 +264,8 @@ class Conditions(Base):
                ("units", None), ("word", "repeat"), ("word", "call"), ("word", "ifnil"), ("word", None), ("word", "none"), ("at", 0), ("at", ()), ("at", (1,)), ("at", (2,)), ("at", (3,)),
                ("at", (1, 0, 0)), ("at", (1, 2)), ("at", (1, 1, 0, 0)), ("at", (1, 1, 2, 0)), ("at", (1, 1)), ("at", (True,)), ("at", (0.0,)), ("at", [0]), ("at", (-1,)), ("at", (2, 0)),
                ("at", (0, 0)), ("at", (0,), 1), ("within", "f"), ("within", "g", (0,)), ("within", "f", (1,)), ("within", "f", (2,)), ("within", "f", (0, 0)), ("within", None, (0,)), ("within", "f", None),
-               ("within", ["f"], (0,)), ("nil", ["x"]), (["nil"], "x"), ("word", {}), ("objects", [1]), ("other", "x"), ["nil", "x"], ("at", ([],)), ("class", "x", [])]
+               ("within", ["f"], (0,)), ("nil", ["x"]), (["nil"], "x"), ("word", {}), ("objects", [1]), ("other", "x"), ["nil", "x"], ("at", ([],)), ("class", "x", []),
+               ("other", (0,)), ("class", "u", "node"), ("class", ["x"], "node"), ("tag", "x"), ("at",), ("word",), ("tag", "x", "t", "t"), ("at", (1, 1, 3, 0))]
         for condition in bad + all_but(lambda value: isinstance(value, tuple) and value == ("nil", "x")):
             for conditions in ([condition], [("some", "x"), condition]):
                 self.assertEqual(self.raises(InvalidArgument, Probe, run, conditions).part, "conditions")
@@ -328,6 +329,9 @@ class Questions(Base):
         # Behind k rounds there are k objects and the one of z.
         self.assertEqual([sizes.find(0), sizes.find(3), sizes.find(10 ** 10)], [(0, 10 ** 20 - 2, 1), (0, 10 ** 20 - 1, 0, 0, 0), (0, 10 ** 20 - 1, 0, 10 ** 10 - 3, 0)])
         self.assertEqual([sizes.count((0, 10 ** 20, 0)), sizes.total((0, 10 ** 20, 0), "objects")], [10 ** 10 + 6, 10 ** 30 + 6 * 10 ** 20 + 3])
+        self.assertEqual([probe.greatest((0, 5, 0), (0, 10 ** 20, 0), "objects"), probe.greatest((0, 5, 0), (0, 10 ** 20, 0, 10 ** 9, 0), "objects")],
+                         [(10 ** 20 + 1, (0, 10 ** 20 - 1, 1)), (10 ** 20 + 1, (0, 10 ** 20 - 1, 1))])
+        self.assertEqual(probe.greatest((0, 10 ** 20, 0), (0, 10 ** 20, 0, 10 ** 9, 0), "objects"), (10 ** 20 + 1, (0, 10 ** 20, 0, 0, 0)))
 
     def test_errors(self):
         run = run_of([("new", "x", "node"), ("ifnil", "x", [("clear", "x")], [("emit", "x")]), ("emit", "x")])
